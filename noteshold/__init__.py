@@ -1,0 +1,1 @@
+"""Noteshold: builds and packages by what was seen."""

@@ -1,0 +1,31 @@
+"""The examples of section 14, as far as their files are written."""
+
+import unittest
+
+from noteshold.index import Index, Row
+from noteshold.steps import Step
+from noteshold.trees import Tree, touched
+from noteshold.versions import Range
+
+
+class ExamplesTest(unittest.TestCase):
+    def test_trees(self):
+        one = Tree({"a/b": "1", "c": ""})
+        told = [one.answer(("list", "a")), one.answer(("read", "a")), touched(one, one.after([("put", "a/d", "2")]))]
+        self.assertEqual(told, [("b",), None, [("read", "a/d"), ("list", "a")]])
+
+    def test_steps(self):
+        lib = Step(("ask", ("read", "src"), [(None, ("end", "none", []))], ("end", "ok", [("x", "1")])))
+        run = lib.run(Tree({"src": "s"}))
+        self.assertEqual([run.sights, run.outcome, run.made], [((("read", "src"), "s"),), "ok", (("x", "1"),)])
+
+    def test_rows(self):
+        old = Row(needs=[(None, [("lib", Range([(1, 2)]))], [])])
+        new = Row(needs=[(None, [("lib", Range([(3, 3)]))], [])])
+        index = Index({("app", 1): old, ("app", 2): new, ("lib", 2): Row()})
+        self.assertEqual(old.text(), "need lib 1-2\n")
+        self.assertEqual(index["app", 2].text(), "need lib 3\n")
+
+
+if __name__ == "__main__":
+    unittest.main()

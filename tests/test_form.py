@@ -1,0 +1,241 @@
+"""The form of the package's files: the main rules of the subset of the language that they keep to."""
+
+import ast
+import builtins
+import pathlib
+import re
+import unittest
+
+FOLDER = pathlib.Path(__file__).resolve().parent.parent / "noteshold"
+FILES = {path.stem: path.read_text() for path in sorted(FOLDER.glob("*.py"))}
+TREES = {name: ast.parse(text) for name, text in FILES.items()}
+
+BUILTINS = """len range enumerate zip min max sum abs sorted reversed int str bool list tuple dict set isinstance ord repr
+any all divmod iter ValueError TypeError NotImplemented""".split()
+METHODS = """append clear copy count endswith extend find get index insert isalnum isalpha isdigit islower isspace isupper
+items join keys ljust lower lstrip partition pop remove replace reverse rfind rjust rpartition rsplit rstrip setdefault
+split splitlines startswith strip update upper values zfill bit_length isascii removeprefix removesuffix""".split()
+DOUBLE = """__init__ __eq__ __len__ __iter__ __contains__ __getitem__ __or__ __and__ __sub__ __invert__""".split()
+BARRED_NAMES = """register mro elements open input law version_info with_traceback add_note attrgetter breakpoint builtins
+compile copyright credits delattr dir eval exec exit gc getattr globals hasattr help id importlib license locals
+methodcaller os quit setattr super type vars sys""".split()
+BARRED_WORDS = """typing typing_extensions enum Enum IntEnum StrEnum Flag IntFlag Generic Protocol ABC ABCMeta namedtuple
+NamedTuple TypedDict TYPE_CHECKING abstractmethod""".split()
+STATEMENTS = (ast.Assign, ast.AugAssign, ast.If, ast.While, ast.For, ast.Return, ast.Break, ast.Continue, ast.Pass,
+              ast.Raise, ast.Assert, ast.Delete, ast.Expr, ast.FunctionDef, ast.ClassDef, ast.ImportFrom)
+AT_ONCE = ("zip", "enumerate", "reversed", "range", "items", "keys", "values")
+TAKE = ("list", "tuple", "dict", "sorted", "sum", "any", "all", "enumerate", "zip", "min", "max")
+
+
+def nodes(kind):
+    return [(name, node) for name, tree in TREES.items() for node in ast.walk(tree) if isinstance(node, kind)]
+
+
+def parents(tree):
+    return {child: node for node in ast.walk(tree) for child in ast.iter_child_nodes(node)}
+
+
+def called(node):
+    """The word by which something is called, '' for anything else."""
+    if not isinstance(node, ast.Call):
+        return ""
+    return node.func.id if isinstance(node.func, ast.Name) else getattr(node.func, "attr", "")
+
+
+def bound_in(function):
+    """All names that a function binds, its parameters among them."""
+    names = [arg.arg for arg in function.args.args]
+    return names + [node.id for node in ast.walk(function) if isinstance(node, ast.Name) and isinstance(node.ctx, ast.Store)]
+
+
+class FilesTest(unittest.TestCase):
+    def test_folder(self):
+        others = [path.name for path in FOLDER.iterdir() if path.suffix != ".py" and path.name != "__pycache__"]
+        self.assertEqual(others, [])
+        self.assertIn("__init__", FILES)
+
+    def test_size_and_signs(self):
+        for name, text in FILES.items():
+            self.assertLessEqual(len(text.splitlines()), 399, name)
+            self.assertTrue(all(sign == "\n" or " " <= sign <= "~" for sign in text), name)
+            self.assertTrue(all(len(line) <= 120 for line in text.splitlines()), name)
+        for name, node in nodes(ast.FunctionDef):
+            self.assertLessEqual(node.end_lineno - node.lineno + 1, 40, (name, node.name))
+
+    def test_imports(self):
+        froms = {}
+        for name, node in nodes((ast.Import, ast.ImportFrom)):
+            self.assertIsInstance(node, ast.ImportFrom, name)
+            self.assertEqual(node.level, 0)
+            file = node.module.removeprefix("noteshold.")
+            self.assertIn(file, FILES)
+            defined = [part.name for part in TREES[file].body if isinstance(part, (ast.FunctionDef, ast.ClassDef))]
+            defined += [part.targets[0].id for part in TREES[file].body if isinstance(part, ast.Assign)]
+            for alias in node.names:
+                self.assertIn(alias.name, defined, (name, file))
+                self.assertIsNone(alias.asname)
+            froms.setdefault(name, []).append(file)
+        done = []
+        while len(done) < len(FILES):
+            ready = [name for name in FILES if name not in done and all(file in done for file in froms.get(name, []))]
+            self.assertNotEqual(ready, [], "files import one another in a ring")
+            done.extend(ready)
+
+    def test_imports_are_used(self):
+        for name, tree in TREES.items():
+            used = [node.id for node in ast.walk(tree) if isinstance(node, ast.Name)]
+            for node in tree.body:
+                if isinstance(node, ast.ImportFrom):
+                    self.assertEqual([alias.name for alias in node.names if alias.name not in used], [], name)
+
+    def test_module_level(self):
+        for name, tree in TREES.items():
+            bound = []
+            for node in tree.body:
+                if isinstance(node, ast.Expr):
+                    self.assertIsInstance(node.value, ast.Constant)
+                elif isinstance(node, ast.Assign):
+                    self.assertIsNotNone(ast.literal_eval(node.value))
+                    bound.append(node.targets[0].id)
+                elif isinstance(node, ast.ImportFrom):
+                    bound.extend(alias.name for alias in node.names)
+                else:
+                    self.assertIsInstance(node, (ast.FunctionDef, ast.ClassDef))
+                    bound.append(node.name)
+            self.assertEqual(len(bound), len(set(bound)), name)
+
+
+class StatementsTest(unittest.TestCase):
+    def test_statements(self):
+        for name, node in nodes(ast.stmt):
+            self.assertIsInstance(node, STATEMENTS, (name, node.lineno))
+
+    def test_no_other_expressions(self):
+        barred = (ast.GeneratorExp, ast.Yield, ast.YieldFrom, ast.Await, ast.Set, ast.Div, ast.NamedExpr, ast.Global,
+                  ast.Lambda, ast.Pow, ast.MatMult)
+        for name, node in nodes(barred):
+            self.fail((name, type(node)))
+        for name, node in nodes(ast.Constant):
+            self.assertIsInstance(node.value, (int, str, type(None)), (name, node.lineno))
+            if isinstance(node.value, str):
+                self.assertNotIn("%", node.value)
+                self.assertFalse(node.value.startswith("__") and node.value.endswith("__"))
+
+    def test_functions(self):
+        for name, node in nodes(ast.FunctionDef):
+            place = (name, node.name)
+            self.assertIsNone(node.returns, place)
+            self.assertTrue(all(arg.annotation is None for arg in node.args.args), place)
+            self.assertEqual([node.args.vararg, node.args.kwarg, node.args.kwonlyargs, node.args.posonlyargs],
+                             [None, None, [], []], place)
+            for value in node.args.defaults:
+                self.assertIn(ast.literal_eval(value), (None, ()), place)
+            self.assertTrue(all(getattr(one, "id", "") == "staticmethod" for one in node.decorator_list), place)
+            if node.name.startswith("__"):
+                self.assertIn(node.name, DOUBLE, place)
+
+    def test_raise_makes_its_error(self):
+        for name, node in nodes(ast.Raise):
+            self.assertIsInstance(node.exc, ast.Call, (name, node.lineno))
+            self.assertIsInstance(node.exc.func, ast.Name)
+            self.assertIsNone(node.cause)
+
+    def test_is(self):
+        for name, node in nodes(ast.Compare):
+            for sign, other in zip(node.ops, node.comparators):
+                if isinstance(sign, (ast.Is, ast.IsNot)):
+                    self.assertIn(getattr(other, "value", 0), (None, True, False), (name, node.lineno))
+
+    def test_init_returns_nothing(self):
+        for name, node in nodes(ast.FunctionDef):
+            returns = [one for one in ast.walk(node) if isinstance(one, ast.Return)]
+            if node.name == "__init__":
+                self.assertEqual(returns, [], name)
+            if node.name == "__len__":
+                self.assertTrue(all(called(one.value) == "len" for one in returns), name)
+
+
+class NamesTest(unittest.TestCase):
+    def test_builtins(self):
+        for name, tree in TREES.items():
+            for node in ast.walk(tree):
+                if isinstance(node, ast.Name) and hasattr(builtins, node.id):
+                    self.assertIn(node.id, BUILTINS + ["staticmethod"], (name, node.lineno))
+                    self.assertIsInstance(node.ctx, ast.Load, (name, node.lineno))
+                if isinstance(node, ast.arg):
+                    self.assertFalse(hasattr(builtins, node.arg), (name, node.lineno))
+
+    def test_barred_names(self):
+        for name, tree in TREES.items():
+            text = re.sub(r'""".*?"""', "", re.sub(r"#.*", "", FILES[name]), flags=re.S)
+            self.assertEqual([word for word in re.findall(r"\w+", text) if word in BARRED_WORDS + ["type"]], [], name)
+            for node in ast.walk(tree):
+                told = [getattr(node, part, None) for part in ("id", "arg", "name", "attr")]
+                for word in told:
+                    self.assertNotIn(word, BARRED_NAMES, name)
+                    self.assertFalse(isinstance(word, str) and word.startswith("__") and word not in DOUBLE, word)
+
+    def test_locals_beside_imports_and_classes(self):
+        for name, tree in TREES.items():
+            barred = [alias.name for node in tree.body if isinstance(node, ast.ImportFrom) for alias in node.names]
+            barred += [node.name for node in tree.body if isinstance(node, ast.ClassDef)]
+            functions = [node.name for node in tree.body if isinstance(node, ast.FunctionDef)]
+            for node in ast.walk(tree):
+                if isinstance(node, ast.FunctionDef):
+                    self.assertEqual([word for word in bound_in(node) if word in barred + functions], [], (name, node.name))
+
+    def test_underscore_is_never_read(self):
+        for name, node in nodes(ast.Name):
+            self.assertFalse(node.id == "_" and isinstance(node.ctx, ast.Load), name)
+
+    def test_methods(self):
+        own = [part.name for _, kind in nodes(ast.ClassDef) for part in kind.body if isinstance(part, ast.FunctionDef)]
+        for name, node in nodes(ast.Call):
+            if isinstance(node.func, ast.Attribute):
+                self.assertIn(node.func.attr, METHODS + own, (name, node.lineno))
+                if node.func.attr in METHODS and node.func.attr not in own:
+                    self.assertEqual(node.keywords, [], (name, node.lineno))
+        for word in own:
+            self.assertNotIn(word, METHODS)
+
+    def test_methods_and_attributes_of_one_class(self):
+        for name, node in nodes(ast.ClassDef):
+            methods = [part.name for part in node.body if isinstance(part, ast.FunctionDef)]
+            stored = [part.attr for part in ast.walk(node) if isinstance(part, ast.Attribute)
+                      and isinstance(part.ctx, ast.Store)]
+            self.assertEqual(len(methods), len(set(methods)))
+            self.assertEqual([word for word in stored if word in methods + METHODS and word != "index"], [], name)
+
+
+class IterationTest(unittest.TestCase):
+    def test_at_once(self):
+        for name, tree in TREES.items():
+            above = parents(tree)
+            for node in ast.walk(tree):
+                if called(node) in AT_ONCE:
+                    over = above[node]
+                    self.assertTrue(isinstance(over, (ast.For, ast.comprehension)) or called(over) in TAKE + ("join",),
+                                    (name, node.lineno))
+
+    def test_sets(self):
+        for name, tree in TREES.items():
+            above = parents(tree)
+            for node in ast.walk(tree):
+                if called(node) == "set" or isinstance(node, ast.SetComp):
+                    self.assertIn(called(above[node]), ("sorted", "len"), (name, node.lineno))
+
+    def test_loops_do_not_change_what_they_go_over(self):
+        changing = ("append", "clear", "extend", "insert", "pop", "remove", "reverse", "setdefault", "update")
+        for name, node in nodes(ast.For):
+            over = node.iter.args[0] if called(node.iter) in AT_ONCE[:3] else node.iter
+            over = node.iter.func.value if called(node.iter) in AT_ONCE[4:] else over
+            row = ast.unparse(over)
+            for part in [one for rows in node.body for one in ast.walk(rows)]:
+                if called(part) in changing and isinstance(part.func, ast.Attribute):
+                    self.assertNotEqual(ast.unparse(part.func.value), row, (name, part.lineno))
+                if isinstance(part, ast.Subscript) and not isinstance(part.ctx, ast.Load):
+                    self.assertNotEqual(ast.unparse(part.value), row, (name, part.lineno))
+
+
+if __name__ == "__main__":
+    unittest.main()

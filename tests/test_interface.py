@@ -1,0 +1,114 @@
+"""The interface: names, parameters and under which file each function and class is defined; the errors (2.2)."""
+
+import importlib
+import inspect
+import re
+import unittest
+
+from noteshold import errors
+
+ERRORS = """BadPath(path), Blocked(path), BadLook(look), BadChange(index), BadSight(index), Apart(first, second),
+BadPattern(thing), BadStep(place), BadEnd(thing), NoRun(), BadIndex(thing), NotOne(first, second), Known(which),
+BadName(name), BadSources(path), OwnFolder(name), Ringed(circle), OtherStep(name), NotTogether(why), BadKept(index),
+BadSort(thing), BadEntry(index), BadAsk(index), BadRange(index), BadRow(kind), BadPlace(place), BadWish(index),
+BadChoice(choice), BadNumber(number), BadText(line), BadThreat(threat), BadLock(lock), NotRight(choice), NotChooser(),
+NotTrue(index), NoPackage(package), BadShelf(name), BadHouse(name), NoHouse(name), BadDeed(index), BadManner(name),
+NoStep(name), BadHold(index), Waiting(who), BadLength(name), BadHands(hands), TooEarly(name, look), NoCache(name),
+Nothing()"""
+
+FUNCTIONS = {
+    "trees": "changes_between(one, other), touched(one, other)",
+    "sights": "is_sight(thing), sort_of(sight), untrue(sights, tree), bars(one, other), apart(sights), tree_of(sights), "
+              "nearest(tree, sights), follows(sights, sight), least(sights), sure(sights, look)",
+    "patterns": "matches(pattern, path), missed(patterns, pattern), shared(one, other)",
+    "ends": "ends(step), makes(step, path), parting(one, other), alike(one, other), pruned(step), "
+            "step_reasons(step, run), is_step_reason(step, run, numbers)",
+    "books": "clash(one, other), one_reader(runs), ways_to_one(runs), step_of(book, outcome, made=()), "
+             "two_steps(book, tree), moved_runs(book, one, other), stays(book, one, other)",
+    "index": "index_of(tree), wish_text(wishes), wish_read(text)",
+}
+
+CLASSES = {
+    ("trees", "Tree(files=None)"): "files(), answer(look), after(changes), part(path), firsts(), __or__(other), "
+                                   "__eq__(other), __len__(), __contains__(x)",
+    ("steps", "Step(tree)"): "tree(), looks(), run(tree), __eq__(other)",
+    ("steps", "Run(sights, outcome, made=())"): "note(), holds(tree), ends_as(other), __len__(), __eq__(other)",
+    ("books", "Book(runs=())"): "all_runs(), more(run), says(tree), way(tree), __iter__(), __len__(), __contains__(x), "
+                                "__eq__(other)",
+    ("works", "Work(names)"): "names(), need(look), tree(sources, made), __len__(), __contains__(x), __eq__(other)",
+    ("versions", "Range(spans)"): "spans(), text(), __or__(other), __and__(other), __sub__(other), __invert__(), "
+                                  "__len__(), __contains__(x), __eq__(other)",
+    ("index", "Row(features=(), needs=(), clashes=())"): "text(), __eq__(other)",
+    ("index", "Index(rows=None)"): "packages(), versions(package), put(place, row), without(place), files(), "
+                                   "__getitem__(at), __len__(), __eq__(other)",
+}
+
+
+def calls_in(text):
+    """The pairs of a name and its parameters, as they are written."""
+    return re.findall(r"(\w+)\(((?:[^()]|\(\))*)\)", text)
+
+
+def shown(function):
+    """The parameters of a function as the interface writes them, that of an object itself left out."""
+    told = [str(one) for one in inspect.signature(function).parameters.values() if one.name != "self"]
+    return ", ".join(told)
+
+
+class InterfaceTest(unittest.TestCase):
+    def test_functions(self):
+        for file, text in FUNCTIONS.items():
+            module = importlib.import_module("noteshold." + file)
+            for name, params in calls_in(text):
+                function = getattr(module, name)
+                self.assertTrue(inspect.isfunction(function))
+                self.assertEqual(function.__module__, "noteshold." + file)
+                self.assertEqual(shown(function), params)
+
+    def test_classes(self):
+        for (file, call), text in CLASSES.items():
+            module = importlib.import_module("noteshold." + file)
+            name, params = calls_in(call)[0]
+            kind = getattr(module, name)
+            self.assertEqual(kind.__module__, "noteshold." + file)
+            self.assertEqual(shown(kind), params)
+            for method, told in calls_in(text):
+                self.assertIn(method, vars(kind))
+                self.assertEqual(shown(vars(kind)[method]), told)
+
+    def test_static_methods(self):
+        for file, name in [("versions", "Range"), ("index", "Row")]:
+            kind = getattr(importlib.import_module("noteshold." + file), name)
+            self.assertIsInstance(vars(kind)["read"], staticmethod)
+            self.assertEqual(shown(kind.read), "text")
+
+
+class ErrorsTest(unittest.TestCase):
+    def told(self):
+        return [(name, [param for param in params.split(", ") if param]) for name, params in calls_in(ERRORS)]
+
+    def test_bases(self):
+        self.assertEqual(errors.NoteError.__bases__, (ValueError,))
+        self.assertEqual(len(self.told()), 49)
+        for name, _ in self.told():
+            self.assertEqual(getattr(errors, name).__bases__, (errors.NoteError,))
+            self.assertEqual(getattr(errors, name).__module__, "noteshold.errors")
+        own = [one for one in vars(errors).values() if isinstance(one, type)]
+        self.assertEqual(len(own), 50)
+
+    def test_they_keep_the_very_objects(self):
+        for name, params in self.told():
+            kind = getattr(errors, name)
+            things = [[param] for param in params]
+            by_place, by_name = kind(*things), kind(**dict(zip(params, things)))
+            for param, thing in zip(params, things):
+                self.assertIs(getattr(by_place, param), thing)
+                self.assertIs(getattr(by_name, param), thing)
+            if params:
+                self.assertEqual(shown(kind), ", ".join(params))
+            with self.assertRaises(ValueError):
+                raise by_place
+
+
+if __name__ == "__main__":
+    unittest.main()
