@@ -186,10 +186,7 @@ def need_read(words, features):
     while words[place:place + 1] == ["or"]:
         options.append(option_read(words[place + 1:place + 3]))
         place += 3
-    asks = asks_read(words[place:])
-    if asks is None:
-        return None
-    return plain_need((when, options, asks), features)
+    return plain_need((when, options, asks_read(words[place:])), features)
 
 
 def asks_read(words):
@@ -259,7 +256,6 @@ def wish_read(text):
 
 
 def wish_line_read(words):
-    asks = asks_read(words[3:])
-    if words[0] != "want" or len(words) < 3 or asks is None:
+    if words[0] != "want" or len(words) < 3:
         return None
-    return plain_wish((words[1], range_read(words[2]), asks))
+    return plain_wish((words[1], range_read(words[2]), asks_read(words[3:])))

@@ -1,6 +1,7 @@
 """The plain kinds of values: integers, lists, names, paths, looks, answers, made files."""
 
 LOOKS = ("read", "list")
+LONGEST_NAME = 8
 
 
 def is_integer(thing):
@@ -13,7 +14,7 @@ def is_list(thing):
 
 def is_name(thing):
     """Whether any object is a string of 1 to 8 small letters and figures."""
-    if not isinstance(thing, str) or not 1 <= len(thing) <= 8:
+    if not isinstance(thing, str) or len(thing) > LONGEST_NAME:
         return False
     return thing.isascii() and thing.isalnum() and thing == thing.lower()
 
@@ -47,7 +48,7 @@ def plain_look(thing):
     if not is_list(thing) or len(thing) != 2:
         return None
     word, path = thing
-    if not isinstance(word, str) or word not in LOOKS or not is_path(path):
+    if word not in LOOKS or not is_path(path):
         return None
     return (word, path)
 

@@ -39,7 +39,7 @@ class Work:
         return len(self._names)
 
     def __contains__(self, x):
-        return isinstance(x, str) and x in self._names
+        return x in self._names
 
     def __eq__(self, other):
         return isinstance(other, Work) and self._names == other._names

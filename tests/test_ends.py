@@ -128,6 +128,21 @@ class PartingTest(unittest.TestCase):
         self.assertNotEqual(end_of(one, tree), end_of(third, tree))
         self.assertIsNone(parting(one=one, other=one))
 
+    def test_one_look_with_unlike_cases(self):
+        texts = [Tree({"a": text}) for text in "012"] + [Tree()]
+        folders = [Tree({"a/b": ""}), Tree({"a/c": ""}), Tree({"a/b": "", "a/c": ""}), Tree()]
+        for look, answers, trees in [(READ, (None, "0", "1"), texts), (LIST, (None, ("b",), ("c",)), folders)]:
+            steps = []
+            for told in itertools.product((None, ONE, TWO), repeat=3):
+                cases = [(answer, end) for answer, end in zip(answers, told) if end is not None]
+                steps += [Step(("ask", look, cases, end)) for end in (ONE, TWO)]
+            for one, other in itertools.product(steps, steps):
+                unlike = [tree for tree in trees if end_of(one, tree) != end_of(other, tree)]
+                tree = parting(one, other)
+                self.assertEqual(tree is None, unlike == [])
+                if tree is not None:
+                    self.assertNotEqual(end_of(one, tree), end_of(other, tree))
+
     def test_files_that_have_to_be(self):
         # a/b is a file by the list of a, but has none of these texts; a/c is a folder, but none of these.
         names = ("b", "c/")

@@ -111,6 +111,7 @@ class RowTextTest(unittest.TestCase):
 
     def test_words_that_are_names_too(self):
         for row in (Row(["when", "need"], [("when", [("or", ALL), ("need", LOW)], [])], [("clash", ALL)]),
+                    Row(["feature", "clash"], [(None, [("a", LOW), ("or", ALL), ("c", LOW), ("when", ALL)], [])]),
                     Row(["with"], [("with", [("with", ALL)], ["with", "or"]), (None, [("all", Range([]))], [])])):
             self.assertEqual(Row.read(row.text()), row)
 
@@ -124,7 +125,8 @@ class RowTextTest(unittest.TestCase):
                           "need a 1 with", "need a 1 with p p", "need a 1 or b 2 with p", "need a 1 or a 2", "clash a",
                           "clash a 1 2", "clash A 1", "need a 1-1", "need a 2-1", "need a 1,2", "when x", "when u need a 1",
                           "when x feature y", "when x clash a 1", " need a 1", "need  a 1", "need a 1 ", "want a 1",
-                          "when need a 1", "need a 1 or b", "need a 1 with A", "when x when x need a 1", "need a 01"]:
+                          "when need a 1", "need a 1 or b", "need a 1 with A", "when x when x need a 1", "need a 01",
+                          "need a 1 or b 2 c", "need a 1 or b 2 or", "need a 1 b 2 or c 3", "need a 1 or b 2 3"]:
                 self.wrong(begun + other + "\n" + "".join(line + "\n" for line in lines[k:]), k + 1)
 
     def test_order_of_lines(self):
@@ -156,6 +158,8 @@ class IndexTest(unittest.TestCase):
         self.assertEqual(self.index["lib", 9], Row())
         self.assertEqual(self.index[["app", 2]], Row(["x"]))
         self.assertIsNone(self.index["app", 3])
+        with self.assertRaises(TypeError):
+            list(self.index)
         for place in odd_things() + [("lib", 0), ("lib", 21), ("lib", "9"), ("lib", True), ("Lib", 9), ("lib",), "lib",
                                      ("lib", 9, 9), (9, "lib")]:
             with self.assertRaises(BadPlace) as caught:
@@ -188,7 +192,7 @@ class IndexTest(unittest.TestCase):
                 self.assertIs(caught.exception.place, place)
         for row in odd_things():
             if not isinstance(row, Row):
-                place = ("lib", 1)
+                place = ["lib", 1]
                 with self.assertRaises(BadPlace) as caught:
                     self.index.put(place, row)
                 self.assertIs(caught.exception.place, place)

@@ -137,15 +137,16 @@ class TogetherTest(unittest.TestCase):
         # The trees in which sights are true, those of the small world among them, are never nearer than told.
         far = [[len(changes_between(one, other)) for other in TREES] for one in TREES]
         sights = list(SIGHTS)
-        for number, pair in enumerate(itertools.combinations_with_replacement(sights, 2)):
-            held = SIGHTS[pair[0]] & SIGHTS[pair[1]]
-            if held:
-                goals = [k for k in range(len(TREES)) if held >> k & 1]
-                for k in range(number % 97, len(TREES), 97):
-                    tree = nearest(TREES[k], pair)
-                    self.assertEqual(untrue(pair, tree), [])
-                    least_far = min(far[k][goal] for goal in goals)
-                    self.assertEqual(len(changes_between(TREES[k], tree)), least_far)
+        chance = random.Random(4)
+        some = list(itertools.combinations_with_replacement(sights, 2))
+        some += [tuple(chance.choice(sights) for _ in range(size)) for size in (3, 4, 5) for _ in range(2000)]
+        for number, told in enumerate(some):
+            goals = [k for k in range(len(TREES)) if all(SIGHTS[sight] >> k & 1 for sight in told)]
+            for k in range(number % 97, len(TREES), 97) if goals else []:
+                tree = nearest(TREES[k], told)
+                self.assertEqual(untrue(told, tree), [])
+                least_far = min(far[k][goal] for goal in goals)
+                self.assertEqual(len(changes_between(TREES[k], tree)), least_far)
 
     def test_nearest_keeps_what_it_can(self):
         tree = Tree({"a/b": "1", "a/c/d": "2", "e": "3"})

@@ -18,7 +18,8 @@ def bad_mades():
     """Objects that are no list of made files."""
     lists = [[thing] for thing in odd_things()]
     wrong = [[("a", "1"), ("a", "1")], [("a", ""), ("a/b", "")], [("a/b", ""), ("a0", ""), ("a", "")], [("a", None)],
-             [("A", "")], [("a", "", "")], [("a",)], [("a/b/c", ""), ("x", ""), ("a/b/c/d/e", "")], {"a": "1"}]
+             [("A", "")], [("a", "", "")], [("a",)], [("a/b/c", ""), ("x", ""), ("a/b/c/d/e", "")], [("a", ""), ("x/y", ""), ("x", "")],
+             {"a": "1"}]
     return [thing for thing in odd_things() if thing not in ([], ())] + lists + wrong
 
 
@@ -93,6 +94,7 @@ class MakeStepsTest(unittest.TestCase):
                   ("ask", READ, [(None, END), ("1", ("end", "y", [])), cases[2]], END)]
         for tree in others:
             self.assertTrue(Step(tree) != steps[0])
+        self.assertFalse(Step(("ask", READ, [(None, END)], END)) == Step(("ask", LIST, [(None, END)], END)))
         for thing in odd_things()[:-5] + [steps[0].tree()]:
             self.assertFalse(steps[0] == thing)
         made = [("end", "", [("a", "1"), ("b", "2")]), ("end", "", [("b", "2"), ("a", "1")])]

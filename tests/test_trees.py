@@ -29,7 +29,8 @@ class MakeTreesTest(unittest.TestCase):
     def test_names_and_paths(self):
         for path in ("a", "0", "abcdefgh", "a/bc/d2", "z9/0", "a/b/c/d/e/f/g/h/i"):
             self.assertIn(path, Tree({path: ""}))
-        for path in ("", "/", "A", "a/", "/a", "a//b", "a.b", "a b", "abcdefghi", "a/abcdefghi", "a-b", "a\n", "**"):
+        for path in ("", "/", "A", "a/", "/a", "a//b", "a.b", "a b", "abcdefghi", "a/abcdefghi", "a-b", "a\n", "**",
+                     "\u00e9", "a\u00b2"):
             with self.assertRaises(BadPath) as caught:
                 Tree({path: ""})
             self.assertEqual(caught.exception.path, path)
@@ -171,7 +172,7 @@ class ChangesTest(unittest.TestCase):
                  ("lose", "a"), ("put", "a", "b", "c"), "put", {"put": "a"}, (["drop"], "a")]
         for change in odd_things() + wrong:
             with self.assertRaises(BadChange) as caught:
-                Tree({"b": ""}).after([("drop", "b"), change])
+                Tree({"a": "", "b": ""}).after([("drop", "b"), change])
             self.assertEqual(caught.exception.index, 1)
 
     def test_no_list(self):
