@@ -74,7 +74,7 @@ def shortest(rows, many):
     line = [(tuple([passed(parts, 1) for parts in rows]), ())]
     while line:
         further = []
-        for masks, path in line:
+        for masks, path in list(line):
             for name in names:
                 behind = tuple([step_of_mask(steps, rows, k, mask, name) for k, mask in enumerate(masks)])
                 if behind in seen or 0 in behind[:many]:

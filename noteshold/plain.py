@@ -43,12 +43,25 @@ def first_of(path):
     return path.partition("/")[0]
 
 
+def is_met_path(thing, paths):
+    """Whether any object is a path; those that are one are kept in paths, so that none is judged twice."""
+    if not isinstance(thing, str):
+        return False
+    if thing not in paths and is_path(thing):
+        paths[thing] = True
+    return thing in paths
+
+
 def plain_look(thing):
     """The look as a tuple, None if the thing is none."""
+    return met_look(thing, {})
+
+
+def met_look(thing, paths):
     if not is_list(thing) or len(thing) != 2:
         return None
     word, path = thing
-    if word not in LOOKS or not is_path(path):
+    if word not in LOOKS or not is_met_path(path, paths):
         return None
     return (word, path)
 
@@ -58,40 +71,57 @@ def bare(mark):
     return mark.removesuffix("/")
 
 
-def is_answer(word, thing):
-    """Whether any object can be the answer of a look that begins with this word."""
+def plain_answer(word, thing):
+    """The answer of a look that begins with this word, in a tuple of its own; None for any object that is none."""
+    return met_answer(word, thing, {})
+
+
+def met_answer(word, thing, marks):
     if thing is None:
-        return True
+        return (None,)
     if word == "read":
-        return isinstance(thing, str)
-    return are_marks(thing)
+        return (thing,) if isinstance(thing, str) else None
+    told = met_marks(thing, marks)
+    return None if told is None else (told,)
 
 
-def are_marks(thing):
-    """Whether any object can be all that is in a folder."""
+def met_marks(thing, marks):
+    """All that is in a folder as a tuple, None for any object that cannot be that.
+
+    Marks are kept with their names, so that none is judged twice.
+    """
     if not is_list(thing) or len(thing) == 0:
-        return False
-    if not all([isinstance(mark, str) and is_name(bare(mark)) for mark in thing]):
-        return False
-    names = [bare(mark) for mark in thing]
-    return all([names[k] < names[k + 1] for k in range(len(names) - 1)])
-
-
-def plain_answer(answer):
-    return tuple(answer) if is_list(answer) else answer
+        return None
+    last = ""
+    for mark in thing:
+        if not isinstance(mark, str):
+            return None
+        if mark not in marks:
+            if not is_name(bare(mark)):
+                return None
+            marks[mark] = bare(mark)
+        if marks[mark] <= last:
+            return None
+        last = marks[mark]
+    return tuple(thing)
 
 
 def plain_made(thing):
     """The made files as an ascending tuple of pairs, None if the thing is no list of such."""
-    if not is_list(thing) or not all([is_made_file(pair) for pair in thing]):
+    return met_made(thing, {})
+
+
+def met_made(thing, paths):
+    if not is_list(thing):
         return None
-    made = sorted([(path, text) for path, text in thing])
-    paths = [path for path, _ in made]
-    # A stroke comes ahead of all signs of names, so what is beneath a path stands right behind it.
-    if any([is_kin(paths[k], paths[k + 1]) for k in range(len(paths) - 1)]):
-        return None
+    made = []
+    for pair in thing:
+        if not is_list(pair) or len(pair) != 2 or not is_met_path(pair[0], paths) or not isinstance(pair[1], str):
+            return None
+        made.append((pair[0], pair[1]))
+    if len(made) > 1:
+        made = sorted(made)
+        # A stroke comes ahead of all signs of names, so what is beneath a path stands right behind it.
+        if any([is_kin(made[k][0], made[k + 1][0]) for k in range(len(made) - 1)]):
+            return None
     return tuple(made)
-
-
-def is_made_file(thing):
-    return is_list(thing) and len(thing) == 2 and is_path(thing[0]) and isinstance(thing[1], str)

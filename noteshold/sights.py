@@ -1,7 +1,7 @@
 """Sights: looks with their answers, what they bar, and what follows from them."""
 
 from noteshold.errors import Apart, BadLook, BadSight
-from noteshold.plain import bare, first_of, is_answer, is_beneath, is_kin, is_list, plain_answer, plain_look
+from noteshold.plain import bare, first_of, is_beneath, is_kin, is_list, plain_answer, plain_look
 from noteshold.trees import Tree
 
 # What a path can be; several of these are told as their sum.
@@ -16,9 +16,8 @@ def plain_sight(thing):
     if not is_list(thing) or len(thing) != 2:
         return None
     look = plain_look(thing[0])
-    if look is None or not is_answer(look[0], thing[1]):
-        return None
-    return (look, plain_answer(thing[1]))
+    told = None if look is None else plain_answer(look[0], thing[1])
+    return None if told is None else (look, told[0])
 
 
 def plain_sights(sights):

@@ -1,7 +1,7 @@
 """Steps, told as trees of choices, and what is known of a run of one."""
 
 from noteshold.errors import BadEnd, BadSight, BadStep
-from noteshold.plain import is_answer, is_list, plain_answer, plain_look, plain_made
+from noteshold.plain import is_list, met_answer, met_look, met_made, plain_made
 from noteshold.sights import least, plain_sight, raise_apart
 
 
@@ -9,8 +9,7 @@ class Step:
     """A step: what it looks at next hangs on what it was shown."""
 
     def __init__(self, tree):
-        self._tree = plain_tree(tree, (), [])
-        self._unordered = unordered(self._tree)
+        self._tree = plain_tree(tree, (), {}, Met())
 
     def tree(self):
         return self._tree
@@ -28,7 +27,7 @@ class Step:
         return Run(sights, here[1], here[2])
 
     def __eq__(self, other):
-        return isinstance(other, Step) and self._unordered == other._unordered
+        return isinstance(other, Step) and same_trees(self._tree, other._tree)
 
 
 class Run:
@@ -86,42 +85,40 @@ def checked_made(made):
     return told
 
 
-def plain_tree(tree, place, above):
+class Met:
+    """What was met so far in a tree of choices, as most of it comes again and again."""
+
+    def __init__(self):
+        self.paths = {}
+        self.marks = {}
+
+
+def plain_tree(tree, place, above, met):
     """The tree of choices in tuples; BadStep for the first place that is wrong, below looks that stand above."""
-    word = tree[0] if is_list(tree) and len(tree) > 0 else None
-    if word == "end":
-        return plain_end(tree, place)
-    if word == "ask":
-        return plain_ask(tree, place, above)
+    size = len(tree) if is_list(tree) else 0
+    if size == 3 and tree[0] == "end" and isinstance(tree[1], str):
+        made = met_made(tree[2], met.paths)
+        if made is not None:
+            return ("end", tree[1], made)
+    if size == 4 and tree[0] == "ask" and is_list(tree[2]):
+        look = met_look(tree[1], met.paths)
+        if look is not None and look not in above:
+            return plain_ask(look, tree, place, above, met)
     raise BadStep(place)
 
 
-def plain_end(tree, place):
-    if len(tree) != 3 or not isinstance(tree[1], str):
-        raise BadStep(place)
-    made = plain_made(tree[2])
-    if made is None:
-        raise BadStep(place)
-    return ("end", tree[1], made)
-
-
-def plain_ask(tree, place, above):
-    look = plain_look(tree[1]) if len(tree) == 4 else None
-    if look is None or look in above or not is_list(tree[2]):
-        raise BadStep(place)
-    behind = [*above, look]
-    cases = []
-    stood = {}
+def plain_ask(look, tree, place, above, met):
+    above[look] = True
+    cases = {}
     for k, case in enumerate(tree[2]):
-        here = (*place, k)
-        if not is_list(case) or len(case) != 2 or not is_answer(look[0], case[0]):
-            raise BadStep(here)
-        answer = plain_answer(case[0])
-        if answer in stood:
-            raise BadStep(here)
-        stood[answer] = True
-        cases.append((answer, plain_tree(case[1], here, behind)))
-    return ("ask", look, tuple(cases), plain_tree(tree[3], (*place, len(cases)), behind))
+        told = met_answer(look[0], case[0], met.marks) if is_list(case) and len(case) == 2 else None
+        if told is None or told[0] in cases:
+            raise BadStep((*place, k))
+        cases[told[0]] = plain_tree(case[1], (*place, k), above, met)
+    other = plain_tree(tree[3], (*place, len(cases)), above, met)
+    # The same look may stand again beside this ask, but not below it.
+    del above[look]
+    return ("ask", look, tuple(cases.items()), other)
 
 
 def looks_of(tree, found):
@@ -146,9 +143,14 @@ def way_behind(ask, number):
     return ask[2][number][1] if number < len(ask[2]) else ask[3]
 
 
-def unordered(tree):
-    """The tree of choices with its cases in a dict, in which their order does not count."""
-    if tree[0] == "end":
-        return tree
-    cases = {answer: unordered(part) for answer, part in tree[2]}
-    return ("ask", tree[1], cases, unordered(tree[3]))
+def same_trees(one, other):
+    """Whether two trees of choices are the same, cases in any order."""
+    if one == other:
+        return True
+    if one[0] == "end" or other[0] == "end" or one[1] != other[1] or len(one[2]) != len(other[2]):
+        return False
+    parts = dict(other[2])
+    for answer, part in one[2]:
+        if answer not in parts or not same_trees(part, parts[answer]):
+            return False
+    return same_trees(one[3], other[3])

@@ -106,7 +106,7 @@ def folders_of(files):
         for k, folder in enumerate(folders):
             stroke = "/" if k < len(folders) - 1 else ""
             found.setdefault(folder, []).append(inner[k][len(folder) + 1:] + stroke)
-    return {folder: tuple(sorted(set(found[folder]))) for folder in sorted(found)}
+    return {folder: tuple(sorted(set(found[folder]))) for folder in sorted(list(found))}
 
 
 def is_change(thing):

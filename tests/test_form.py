@@ -237,5 +237,27 @@ class IterationTest(unittest.TestCase):
                     self.assertNotEqual(ast.unparse(part.value), row, (name, part.lineno))
 
 
+    def test_loops_go_over_no_second_name_of_what_they_change(self):
+        # Where a list that grows in a loop is given the name that the loop goes over, the loop goes over a copy.
+        for name, function in nodes(ast.FunctionDef):
+            for node in [one for one in ast.walk(function) if isinstance(one, ast.For) and isinstance(one.iter, ast.Name)]:
+                grown = [ast.unparse(part.func.value) for part in ast.walk(node)
+                         if called(part) in ("append", "extend", "insert", "pop") and isinstance(part.func, ast.Attribute)]
+                for part in ast.walk(function):
+                    if isinstance(part, ast.Assign) and ast.unparse(part.targets[0]) == node.iter.id:
+                        self.assertNotIn(ast.unparse(part.value), grown, (name, node.lineno))
+
+
+class OperatorsTest(unittest.TestCase):
+    def test_what_is_filled_item_by_item_is_handed_to_no_call(self):
+        # Operators change only what they created, and this rule tells it of the items of a dict.
+        for name, function in nodes(ast.FunctionDef):
+            filled = [ast.unparse(one.func.value) for one in ast.walk(function) if called(one) == "setdefault"]
+            for node in ast.walk(function):
+                if isinstance(node, ast.Call) and called(node) not in ("list", "dict", "len", "enumerate"):
+                    for arg in node.args:
+                        self.assertNotIn(ast.unparse(arg), filled, (name, node.lineno))
+
+
 if __name__ == "__main__":
     unittest.main()
