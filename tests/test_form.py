@@ -22,7 +22,7 @@ methodcaller os quit setattr super type vars sys""".split()
 BARRED_WORDS = """typing typing_extensions enum Enum IntEnum StrEnum Flag IntFlag Generic Protocol ABC ABCMeta namedtuple
 NamedTuple TypedDict TYPE_CHECKING abstractmethod""".split()
 STATEMENTS = (ast.Assign, ast.AugAssign, ast.If, ast.While, ast.For, ast.Return, ast.Break, ast.Continue, ast.Pass,
-              ast.Raise, ast.Assert, ast.Delete, ast.Expr, ast.FunctionDef, ast.ClassDef, ast.ImportFrom)
+              ast.Raise, ast.Assert, ast.Delete, ast.Expr, ast.FunctionDef, ast.ClassDef, ast.ImportFrom, ast.Try)
 AT_ONCE = ("zip", "enumerate", "reversed", "range", "items", "keys", "values")
 TAKE = ("list", "tuple", "dict", "sorted", "sum", "any", "all", "enumerate", "zip", "min", "max")
 
@@ -140,6 +140,12 @@ class StatementsTest(unittest.TestCase):
             self.assertIsInstance(node.exc.func, ast.Name)
             self.assertIsNone(node.cause)
 
+    def test_handlers_name_own_errors(self):
+        own = [node.name for _, node in nodes(ast.ClassDef)]
+        for name, node in nodes(ast.Try):
+            self.assertEqual((node.orelse, node.finalbody), ([], []), name)
+            self.assertTrue(all(one.type.id in own and one.name is None for one in node.handlers), name)
+
     def test_is(self):
         for name, node in nodes(ast.Compare):
             for sign, other in zip(node.ops, node.comparators):
@@ -205,6 +211,30 @@ class NamesTest(unittest.TestCase):
                       and isinstance(part.ctx, ast.Store)]
             self.assertEqual(len(methods), len(set(methods)))
             self.assertEqual([word for word in stored if word in methods + METHODS and word != "index"], [], name)
+
+
+def targets_of(node):
+    """The names that a comprehension assigns."""
+    return [one.id for part in node.generators for one in ast.walk(part.target) if isinstance(one, ast.Name)]
+
+
+class ComprehensionsTest(unittest.TestCase):
+    def test_inner_ones_have_names_of_their_own(self):
+        kinds = (ast.ListComp, ast.DictComp, ast.SetComp)
+        for name, function in nodes(ast.FunctionDef):
+            above = parents(function)
+            inside = [one for node in ast.walk(function) if isinstance(node, kinds)
+                      for part in ast.walk(node) for one in targets_of(node) if part is node]
+            plain = [word for word in bound_in(function) if bound_in(function).count(word) > inside.count(word)]
+            for node in [one for one in ast.walk(function) if isinstance(one, kinds)]:
+                outer = []
+                over = above.get(node)
+                while over is not None and over is not function:
+                    outer.extend(targets_of(over) if isinstance(over, kinds) else [])
+                    over = above.get(over)
+                if outer:
+                    self.assertEqual([word for word in targets_of(node) if word in outer + plain and word != "_"], [],
+                                     (name, function.name))
 
 
 class IterationTest(unittest.TestCase):

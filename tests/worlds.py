@@ -6,6 +6,7 @@ import random
 from noteshold.books import Book
 from noteshold.index import Index, Row
 from noteshold.plain import bare
+from noteshold.rules import SORTS, Rule
 from noteshold.steps import Run, Step
 from noteshold.trees import Tree
 from noteshold.versions import Range
@@ -17,6 +18,15 @@ def odd_things():
     return [None, 0, 1, -1, True, False, "", "/", "A", "a/", "/a", "a//b", "a b", "abcdefghi", "a/abcdefghi", "a\n",
             "read", [], (), {}, {"a": "b"}, [[]], ((),), ["read"], ("read", "a", "b"), [None], Tree(), Tree({"a": "1"}),
             Run([], ""), Step(("end", "", [])), Book(), Work(["a"]), Range([(1, 2)]), Row(), Index()]
+
+
+def raised(error, work):
+    """The error of this very kind that a call raises."""
+    try:
+        work()
+    except error as caught:
+        return caught
+    raise AssertionError(f"{error.__name__} is not raised")
 
 
 def inner_folders(fresh):
@@ -96,3 +106,21 @@ def mark_bits(trees, holds):
 
 def names_in(answer):
     return [bare(mark) for mark in answer]
+
+
+def plain_trees(trees):
+    """Those trees that leave texts and names to others, so that these can stand for all that nobody speaks of."""
+    return [tree for tree in trees if "1" not in tree.files().values() and not any(path.endswith("d") for path in tree.files())]
+
+
+def some_run(chance, trees, most=4):
+    """A run by some looks in one of these trees."""
+    looks = chance.sample(LOOKS, chance.randint(0, most))
+    tree = chance.choice(trees)
+    return Run([(look, tree.answer(look)) for look in looks], chance.choice("01"), chance.choice([[], [], [("x", "1")]]))
+
+
+def some_rule(chance):
+    rule = Rule([(chance.choice(SORTS), chance.choice([None, "a", "a/a", "a/b", "b", "a/a/a"]))
+                 for _ in range(chance.randint(1, 6))])
+    return ~rule if chance.random() < 0.3 else rule
