@@ -2,10 +2,14 @@
 
 import unittest
 
+from noteshold.builds import build, together
+from noteshold.choices import choices, first
 from noteshold.index import Index, Row
+from noteshold.reasons import reasons
 from noteshold.steps import Step
 from noteshold.trees import Tree, touched
 from noteshold.versions import Range
+from noteshold.works import Work
 
 
 class ExamplesTest(unittest.TestCase):
@@ -25,6 +29,19 @@ class ExamplesTest(unittest.TestCase):
         index = Index({("app", 1): old, ("app", 2): new, ("lib", 2): Row()})
         self.assertEqual(old.text(), "need lib 1-2\n")
         self.assertEqual(index["app", 2].text(), "need lib 3\n")
+        wishes = [("app", Range([(1, 20)]), [])]
+        told = [first(index, wishes), choices(index, wishes), old.text()]
+        self.assertEqual(told, [{"app": 1, "lib": 2}, [{"app": 1, "lib": 2}], "need lib 1-2\n"])
+        cells = [("app", 1, 1), ("app", 2, 2), ("app", 3, 20), ("lib", 2, 2), ("lib", 3, 3)]
+        self.assertEqual(reasons(index, wishes), [cells])
+
+    def test_builds(self):
+        lib = Step(("ask", ("read", "src"), [(None, ("end", "none", []))], ("end", "ok", [("x", "1")])))
+        app = Step(("ask", ("read", "lib/x"), [("1", ("end", "good", []))], ("end", "bad", [])))
+        work = Work(["app", "lib"])
+        made = build(work, {"app": app, "lib": lib}, Tree({"src": "s"}), ["app"])
+        told = [list(made.runs), made.order(), made.runs["app"].outcome, together(work, Tree({"src": "t"}), made.runs)]
+        self.assertEqual(told, [["app", "lib"], ["lib", "app"], "good", ("untrue", "lib", 0)])
 
 
 if __name__ == "__main__":

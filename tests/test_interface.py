@@ -6,6 +6,8 @@ import re
 import unittest
 
 from noteshold import errors
+from noteshold.trees import Tree
+from noteshold.works import Work
 
 ERRORS = """BadPath(path), Blocked(path), BadLook(look), BadChange(index), BadSight(index), Apart(first, second),
 BadPattern(thing), BadStep(place), BadEnd(thing), NoRun(), BadIndex(thing), NotOne(first, second), Known(which),
@@ -26,6 +28,26 @@ FUNCTIONS = {
     "books": "clash(one, other), one_reader(runs), ways_to_one(runs), step_of(book, outcome, made=()), "
              "two_steps(book, tree), moved_runs(book, one, other), stays(book, one, other)",
     "index": "index_of(tree), wish_text(wishes), wish_read(text)",
+    "builds": "build(work, steps, sources, wanted), together(work, sources, runs), ends_of(work, sources, books)",
+    "forced": "settled(work, sources, books), standing(work, sources, books), two_works(work, sources, books, name), "
+              "forced(work, sources, books, wanted), rebuilt(work, steps, sources, books, wanted), "
+              "again_needed(work, runs, later)",
+    "rules": "loose(rule, run, facts=()), safe(rule, run, facts=()), stray(rule, run, facts=())",
+    "caches": "out_of(work, sources, cache)",
+    "choices": "is_right(index, wishes, choice), is_lean(index, wishes, choice), lit(index, wishes, choice), "
+               "first(index, wishes), choices(index, wishes), how_many(index, wishes), "
+               "number_of(index, wishes, choice), choice_at(index, wishes, number), spread(index, wishes)",
+    "choosing": "chosen(tree)",
+    "barring": "barring(index, wishes), is_barring(index, wishes, thing), blames(index, wishes), peaces(index, wishes)",
+    "reasons": "cells(index, wishes), sights_of(tree, some), is_note(index, wishes, thing), reasons(index, wishes), "
+               "threats(index, wishes), harm(index, wishes, threat)",
+    "upgrades": "lock_of(tree), news(lock, choice), upgrade(index, wishes, lock), kept(index, wishes, lock), "
+                "unkept(index, wishes, lock), is_upgrade_note(index, wishes, lock, thing), "
+                "upgrade_reasons(index, wishes, lock), upgrade_threats(index, wishes, lock), "
+                "steps(index, wishes, one, goal), closed(index, wishes, one, goal), "
+                "is_closed(index, wishes, one, goal, thing)",
+    "roads": "roads(work, sources, runs, name), is_road(work, sources, runs, name, sights), "
+             "parted(work, sources, runs, name, sights)",
 }
 
 CLASSES = {
@@ -41,6 +63,18 @@ CLASSES = {
     ("index", "Row(features=(), needs=(), clashes=())"): "text(), __eq__(other)",
     ("index", "Index(rows=None)"): "packages(), versions(package), put(place, row), without(place), files(), "
                                    "__getitem__(at), __len__(), __eq__(other)",
+    ("rules", "Rule(kept)"): "has(sort, path), kept(), keeps(other), note(run), __or__(other), __and__(other), "
+                             "__invert__(), __eq__(other)",
+    ("caches", "Cache(rule, entries=())"): "entries(), more(entry), less(index), found(name, tree), strays(name, tree), "
+                                           "answer(name, tree), poisoned(), clash(), answers_in(index), "
+                                           "missed_in(index), never(), idle(), lean(), least(asks), shared(facts), "
+                                           "foreign(facts), for_house(facts), __iter__(), __len__(), __eq__(other)",
+}
+
+# Classes of which the package alone makes objects: their methods, and the attributes that each object has.
+MADE = {
+    ("builds", "Build"): ("made_files(), tree(), order(), ring(), __eq__(other)", ["runs", "waits"]),
+    ("forced", "Rebuilt"): ("", ["ran", "books", "build"]),
 }
 
 
@@ -75,6 +109,19 @@ class InterfaceTest(unittest.TestCase):
             for method, told in calls_in(text):
                 self.assertIn(method, vars(kind))
                 self.assertEqual(shown(vars(kind)[method]), told)
+
+    def test_classes_made_by_the_package(self):
+        build = importlib.import_module("noteshold.builds").build(Work([]), {}, Tree(), [])
+        rebuilt = importlib.import_module("noteshold.forced").rebuilt(Work([]), {}, Tree(), {}, [])
+        for (file, name), (text, attributes) in MADE.items():
+            kind = getattr(importlib.import_module("noteshold." + file), name)
+            self.assertEqual((kind.__module__, kind.__name__), ("noteshold." + file, name))
+            for method, told in calls_in(text):
+                self.assertIn(method, vars(kind))
+                self.assertEqual(shown(vars(kind)[method]), told)
+            thing = build if isinstance(build, kind) else rebuilt
+            self.assertIsInstance(thing, kind)
+            self.assertTrue(all(attribute in vars(thing) for attribute in attributes))
 
     def test_static_methods(self):
         for file, name in [("versions", "Range"), ("index", "Row")]:
