@@ -15,24 +15,12 @@ from noteshold.steps import Run
 from noteshold.trees import Tree
 from noteshold.works import Work
 from tests.houses import some_books, some_work
-from tests.worlds import LOOKS, odd_things, plain_trees, raised, small_trees, some_rule, some_run
+from tests.worlds import LOOKS, folder, odd_things, plain_trees, raised, read, run, small_trees, some_rule, some_run
 
 TREES = small_trees()
 PLAIN = plain_trees(TREES)
 EVERYTHING = Rule([(sort, None) for sort in SORTS])
 NOTHING = Rule([])
-
-
-def run(*sights, end="", made=()):
-    return Run(sights, end, made)
-
-
-def read(path, answer):
-    return (("read", path), answer)
-
-
-def folder(path, answer):
-    return (("list", path), answer)
 
 
 def some_caches(many, most=6):

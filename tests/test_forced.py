@@ -13,19 +13,7 @@ from noteshold.trees import Tree
 from noteshold.works import Work
 from tests.houses import some_books, some_sources, some_work
 from tests.test_builds import END, ask
-from tests.worlds import odd_things, raised
-
-
-def run(*sights, end="", made=()):
-    return Run(sights, end, made)
-
-
-def read(path, answer):
-    return (("read", path), answer)
-
-
-def folder(path, answer):
-    return (("list", path), answer)
+from tests.worlds import folder, odd_things, raised, read, run
 
 
 def has_all(step, book):

@@ -18,22 +18,10 @@ from noteshold.versions import Range
 from noteshold.works import Work
 from tests.houses import needs_there, some_sources, some_work
 from tests.test_builds import END, ask
-from tests.worlds import odd_things, raised
+from tests.worlds import folder, odd_things, raised, read, run
 
 ALL = Range([(1, 20)])
 WISH = ("read", "wish")
-
-
-def run(*sights, end="", made=()):
-    return Run(sights, end, made)
-
-
-def read(path, answer):
-    return (("read", path), answer)
-
-
-def folder(path, answer):
-    return (("list", path), answer)
 
 
 def roads_there(work, sources, runs, name):

@@ -29,6 +29,18 @@ def raised(error, work):
     raise AssertionError(f"{error.__name__} is not raised")
 
 
+def run(*sights, end="", made=()):
+    return Run(sights, end, made)
+
+
+def read(path, answer):
+    return (("read", path), answer)
+
+
+def folder(path, answer):
+    return (("list", path), answer)
+
+
 def inner_folders(fresh):
     """All that a folder can hold in the small world: a file a with two texts or none, and files with fresh names."""
     found = []
