@@ -122,7 +122,9 @@ class BarringTest(unittest.TestCase):
         told = ("ask", "a", {None: leaf, 1: leaf})
         self.assertTrue(is_barring(index=index, wishes=wishes, thing=told))
         wrong = [leaf, ("ask", "a", {1: leaf}), ("ask", "a", {None: leaf}), ("ask", "a", {None: leaf, True: leaf}),
-                 ("ask", "a", {None: leaf, 1: leaf, 2: leaf}), ("ask", "a", [leaf, leaf]), ("ask", "A", {None: told}),
+                 ("ask", "a", {None: leaf, 1: leaf, 2: leaf}), ("ask", "a", {None: leaf, 2: leaf}),
+                 ("ask", "a", {None: leaf, 1: ("broken", ("wish", 0), 1)}), ("ask", "a", {None: leaf, 1: ("stop", ("wish", 0))}),
+                 ("ask", "a", [leaf, leaf]), ("ask", "A", {None: told}),
                  ("ask", 1, {None: told}), ("ask", "b", told), ("ask", "a", {None: leaf, 1: leaf}, 1), ("ask", "a"),
                  ("broken", "wish"), ("stop", "a", {None: leaf, 1: leaf})]
         rules = [("wish", 1), ("wish", -1), ("wish", True), ("wish", False), ("wish", "0"), ("wish",), ("wish", 0, 0), (), None,
@@ -131,6 +133,11 @@ class BarringTest(unittest.TestCase):
         wrong += [("ask", "a", {None: leaf, 1: ("broken", rule)}) for rule in rules + odd_things()]
         for thing in wrong + odd_things():
             self.assertFalse(is_barring(index, wishes, thing))
+        index = index.put(("a", 1), Row(needs=[(None, [("a", only(2))], [])], clashes=[("a", ALL)]))
+        for rule, is_right in [(("need", "a", 1, 0), True), (("clash", "a", 1, 0), True), (["need", "a", 1, 0], True),
+                               (("need", "a", 1), False), (("clash", "a", 1, 0, 0), False), (("bars", "a", 1, 0), False),
+                               (("need", "a", 1, 1), False), (("clash", "a", True, 0), False), (("need", "a", 1, False), False)]:
+            self.assertEqual(is_barring(index, wishes, ("ask", "a", {None: leaf, 1: ("broken", rule)})), is_right)
 
     def test_five_packages_with_four_versions(self):
         start = time.monotonic()

@@ -116,6 +116,13 @@ class BuildTest(unittest.TestCase):
         self.assertIsNone(build(work, steps, Tree(), ["d"]).ring())
         self.assertEqual(build(work, steps, Tree({"s": "1"}), ["a"]).waits["c"], ("read", "a/x"))
 
+    def test_the_ring_of_the_first_that_waits(self):
+        work = Work(["e", "a", "b", "c", "d"])
+        needs = {"e": "d", "a": "b", "b": "a", "c": "d", "d": "c"}
+        steps = {name: Step(ask(needs[name], "list")) for name in needs}
+        self.assertEqual(build(work, steps, Tree(), ["a", "e"]).ring(), ["c", "d"])
+        self.assertEqual(build(work, steps, Tree(), ["c", "a"]).ring(), ["a", "b"])
+
     def test_reading_just_a_name_needs_nothing(self):
         work = Work(["a", "b"])
         told = build(work, {"a": Step(ask("b")), "b": Step(ask("a"))}, Tree(), ["a", "b"])

@@ -33,11 +33,12 @@ class AllChoicesTest(unittest.TestCase):
     def test_lists_of_lean_ones(self):
         for index, wishes in WORLDS:
             told = lean_there(index, wishes)
-            self.assertEqual(choices(index, wishes), told)
+            found = choices(index, wishes)
+            self.assertEqual(found, told)
+            self.assertTrue(all(list(choice) == sorted(choice) for choice in found + [first(index, wishes) or {}]))
             self.assertEqual(how_many(index, wishes), len(told))
             self.assertEqual(first(index, wishes), told[0] if told else None)
             for number, choice in enumerate(told):
-                self.assertEqual(list(choice), sorted(choice))
                 self.assertEqual(number_of(index, wishes, choice), number)
                 self.assertEqual(choice_at(index, wishes, number), choice)
             self.assertIsNone(choice_at(index, wishes, len(told)))

@@ -177,6 +177,10 @@ class NotesTest(unittest.TestCase):
         told = [("a", 2, 2), ("b", 1, 20), ("c", 1, 8), ("c", 9, 9), ("c", 10, 20)]
         self.assertEqual(reasons(index=index, wishes=wishes), [told])
         self.assertEqual(threats(index, wishes), [[cell] for cell in told])
+        # A need that asks for what a row lacks: the row that needs, and the one that lacks, let the choice be each.
+        index = Index({("a", 1): Row(), ("a", 2): Row(needs=[(None, [("b", ALL)], ["f"])]), ("b", 1): Row()})
+        told = [("a", 1, 1), ("a", 2, 2), ("b", 1, 1), ("b", 2, 20)]
+        self.assertEqual(threats(index, [("a", Range([(1, 2)]), [])]), [[cell] for cell in told])
         # Of two packages that lack both, either one bars the greater version, and both of two options the other one.
         index = Index({("a", 3): Row(needs=[(None, [("b", ALL)], []), (None, [("c", ALL)], [])]),
                        ("a", 2): Row(needs=[(None, [("b", ALL), ("c", ALL)], [])]), ("a", 1): Row()})

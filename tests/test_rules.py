@@ -41,6 +41,10 @@ class RuleTest(unittest.TestCase):
         back = some | Rule([("contents", "c")])
         self.assertEqual(back.kept()[0], ("contents", True, (), ("a/b",)))
         self.assertEqual((some & Rule([("contents", "a/b")])).kept(), [])
+        names = ["q", "b", "9", "zz", "a1", "c", "m"]
+        many = Rule([("names", name) for name in names] + [("names", "x/" + name) for name in names])
+        told = (tuple(sorted(names)), tuple("x/" + name for name in sorted(names)))
+        self.assertEqual([many.kept(), (many & EVERYTHING).kept()], [[("names", False, *told)]] * 2)
         # A path of an excepted first name can be one of the few that are as all others are.
         one = ~Rule([("contents", "a")]) | Rule([("contents", "a/b")])
         self.assertEqual(one.kept()[0], ("contents", True, ("a",), ("a/b",)))

@@ -90,6 +90,10 @@ class LocksTest(unittest.TestCase):
         self.assertEqual((kept(index, [], {"a": 2, "b": 1}), unkept(index, [], {"b": 1, "a": 2})), ([()], [("a",), ("b",)]))
         self.assertEqual((kept(index=index, wishes=[], lock={}), unkept(index=index, wishes=[], lock={})), ([()], []))
         self.assertEqual(kept(index, [], {"a": 1, "b": 1}), [("a",)])
+        index = index.put(("b", 1), Row()).put(("c", 1), Row(clashes=[("b", ALL)]))
+        lock = {"z": 2, "c": 1, "y": 3, "b": 1, "a": 1}
+        self.assertEqual((kept(index, [], lock), unkept(index, [], lock)),
+                         ([("a", "b"), ("a", "c")], [("y",), ("z",), ("b", "c")]))
 
     def test_notes(self):
         many = 0
@@ -181,7 +185,7 @@ class StepsTest(unittest.TestCase):
         index = Index({("a", 1): Row(), ("a", 2): Row(needs=[(None, [("b", only(2))], [])]), ("b", 1): Row(),
                        ("b", 2): Row()})
         wishes = [("a", ALL, []), ("b", ALL, [])]
-        way = steps(index=index, wishes=wishes, one={"b": 1, "a": 1}, goal={"a": 2, "b": 2})
+        way = steps(index=index, wishes=wishes[::-1], one={"b": 1, "a": 1}, goal={"a": 2, "b": 2})
         self.assertEqual(way, [{"a": 1, "b": 1}, {"a": 1, "b": 2}, {"a": 2, "b": 2}])
         self.assertEqual(list(way[0]), ["a", "b"])
         index = index.put(("b", 2), Row(clashes=[("a", only(1))]))
