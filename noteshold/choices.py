@@ -67,6 +67,6 @@ def spread(index, wishes):
     told = choices(index, wishes)
     found = {}
     for package in sorted(set([package for choice in told for package in choice])):
-        versions = sorted(set([choice[package] for choice in told if package in choice]), reverse=True)
-        found[package] = versions + ([None] if any([package not in choice for choice in told]) else [])
+        versions = sorted(set([choice[package] for choice in told if package in choice]))
+        found[package] = versions[::-1] + ([None] if any([package not in choice for choice in told]) else [])
     return found

@@ -9,18 +9,27 @@ def is_integer(thing):
 
 
 def is_list(thing):
-    return isinstance(thing, (list, tuple))
+    return isinstance(thing, (tuple, list))
 
 
 def is_name(thing):
     """Whether any object is a string of 1 to 8 small letters and figures."""
-    if not isinstance(thing, str) or len(thing) > LONGEST_NAME:
-        return False
-    return thing.isascii() and thing.isalnum() and thing == thing.lower()
+    return (isinstance(thing, str) and len(thing) <= LONGEST_NAME
+            and thing.isascii() and thing.isalnum() and thing == thing.lower())
 
 
 def is_path(thing):
-    return isinstance(thing, str) and all([is_name(part) for part in thing.split("/")])
+    if not isinstance(thing, str):
+        return False
+    signs = thing.replace("/", "")
+    if not signs.isalnum() or not signs.isascii() or signs != signs.lower():
+        return False
+    if len(signs) <= LONGEST_NAME and "//" not in thing:
+        return thing[0] != "/" and thing[-1] != "/"
+    for name in thing.split("/"):
+        if not 0 < len(name) <= LONGEST_NAME:
+            return False
+    return True
 
 
 def are_names(thing):
@@ -43,26 +52,18 @@ def first_of(path):
     return path.partition("/")[0]
 
 
-def is_met_path(thing, paths):
-    """Whether any object is a path; those that are one are kept in paths, so that none is judged twice."""
-    if not isinstance(thing, str):
-        return False
-    if thing not in paths and is_path(thing):
-        paths[thing] = True
-    return thing in paths
-
-
 def plain_look(thing):
     """The look as a tuple, None if the thing is none."""
     return met_look(thing, {})
 
 
 def met_look(thing, paths):
-    if not is_list(thing) or len(thing) != 2:
+    if not isinstance(thing, (tuple, list)) or len(thing) != 2:
         return None
     word, path = thing
-    if word not in LOOKS or not is_met_path(path, paths):
+    if word not in LOOKS or not isinstance(path, str) or path not in paths and not is_path(path):
         return None
+    paths[path] = True
     return (word, path)
 
 
@@ -73,36 +74,26 @@ def bare(mark):
 
 def plain_answer(word, thing):
     """The answer of a look that begins with this word, in a tuple of its own; None for any object that is none."""
-    return met_answer(word, thing, {})
-
-
-def met_answer(word, thing, marks):
     if thing is None:
         return (None,)
     if word == "read":
         return (thing,) if isinstance(thing, str) else None
-    told = met_marks(thing, marks)
+    told = plain_marks(thing)
     return None if told is None else (told,)
 
 
-def met_marks(thing, marks):
-    """All that is in a folder as a tuple, None for any object that cannot be that.
-
-    Marks are kept with their names, so that none is judged twice.
-    """
-    if not is_list(thing) or len(thing) == 0:
+def plain_marks(thing):
+    """All that is in a folder as a tuple, None for any object that cannot be that."""
+    if not isinstance(thing, (tuple, list)) or len(thing) == 0:
         return None
     last = ""
     for mark in thing:
         if not isinstance(mark, str):
             return None
-        if mark not in marks:
-            if not is_name(bare(mark)):
-                return None
-            marks[mark] = bare(mark)
-        if marks[mark] <= last:
+        name = mark.removesuffix("/")
+        if name <= last or not is_name(name):
             return None
-        last = marks[mark]
+        last = name
     return tuple(thing)
 
 
@@ -112,16 +103,22 @@ def plain_made(thing):
 
 
 def met_made(thing, paths):
-    if not is_list(thing):
+    """The same; paths that were met are kept in paths, so that none is judged twice."""
+    if not isinstance(thing, (tuple, list)):
         return None
     made = []
     for pair in thing:
-        if not is_list(pair) or len(pair) != 2 or not is_met_path(pair[0], paths) or not isinstance(pair[1], str):
+        if not isinstance(pair, (tuple, list)) or len(pair) != 2:
             return None
-        made.append((pair[0], pair[1]))
-    if len(made) > 1:
-        made = sorted(made)
-        # A stroke comes ahead of all signs of names, so what is beneath a path stands right behind it.
-        if any([is_kin(made[k][0], made[k + 1][0]) for k in range(len(made) - 1)]):
+        path, text = pair
+        if not isinstance(text, str) or not isinstance(path, str) or path not in paths and not is_path(path):
             return None
+        paths[path] = True
+        made.append((path, text))
+    if len(made) < 2:
+        return tuple(made)
+    made = sorted(made)
+    # A stroke comes ahead of all signs of names, so what is beneath a path stands right behind it.
+    if any([is_kin(made[k][0], made[k + 1][0]) for k in range(len(made) - 1)]):
+        return None
     return tuple(made)

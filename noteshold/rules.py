@@ -24,7 +24,7 @@ class Rule:
             raise BadSort(sort)
         if not is_path(path):
             raise BadPath(path)
-        return is_kept(self._parts[SORTS.index(sort)], path)
+        return any([is_kept(self._parts[k], path) for k, told in enumerate(SORTS) if told == sort])
 
     def kept(self):
         return [(sort, *self._parts[k]) for k, sort in enumerate(SORTS) if self._parts[k] != NOTHING_KEPT]
@@ -64,13 +64,12 @@ def kept_parts(kept):
     """The list of what is kept of each sort, by pairs as they are passed."""
     if not is_list(kept):
         raise BadKept(0)
-    parts = [NOTHING_KEPT for _ in SORTS]
+    parts = {sort: NOTHING_KEPT for sort in SORTS}
     for index, pair in enumerate(kept):
         if not is_kept_pair(pair):
             raise BadKept(index)
-        k = SORTS.index(pair[0])
-        parts[k] = joined(parts[k], part_told(pair[1]), True)
-    return parts
+        parts[pair[0]] = joined(parts[pair[0]], part_told(pair[1]), True)
+    return [parts[sort] for sort in SORTS]
 
 
 def is_kept_pair(thing):

@@ -1,15 +1,22 @@
 """Steps, told as trees of choices, and what is known of a run of one."""
 
 from noteshold.errors import BadEnd, BadSight, BadStep
-from noteshold.plain import is_list, met_answer, met_look, met_made, plain_made
+from noteshold.plain import is_list, met_look, met_made, plain_made, plain_marks
 from noteshold.sights import least, plain_sight, raise_apart
+
+# So many answers of folders are looked for again in a tree of choices: more would cost more than they save.
+MOST_FOLDERS = 8
 
 
 class Step:
     """A step: what it looks at next hangs on what it was shown."""
 
     def __init__(self, tree):
-        self._tree = plain_tree(tree, (), {}, Met())
+        met = Met()
+        told = plain_tree(tree, {}, met)
+        if told is None:
+            raise BadStep(tuple(met.place[::-1]))
+        self._tree = told
 
     def tree(self):
         return self._tree
@@ -86,39 +93,73 @@ def checked_made(made):
 
 
 class Met:
-    """What was met so far in a tree of choices, as most of it comes again and again."""
+    """What was met so far in a tree of choices, as most of it comes again and again.
+
+    place is the way to the place that is wrong, backwards, where one is.
+    """
 
     def __init__(self):
         self.paths = {}
-        self.marks = {}
+        self.folders = []
+        # The last end as it was told, and in tuples.
+        self.end = None
+        self.plain = None
+        self.place = []
 
 
-def plain_tree(tree, place, above, met):
-    """The tree of choices in tuples; BadStep for the first place that is wrong, below looks that stand above."""
-    size = len(tree) if is_list(tree) else 0
-    if size == 3 and tree[0] == "end" and isinstance(tree[1], str):
-        made = met_made(tree[2], met.paths)
-        if made is not None:
-            return ("end", tree[1], made)
-    if size == 4 and tree[0] == "ask" and is_list(tree[2]):
-        look = met_look(tree[1], met.paths)
-        if look is not None and look not in above:
-            return plain_ask(look, tree, place, above, met)
-    raise BadStep(place)
+def plain_tree(tree, above, met):
+    """The tree of choices in tuples, below looks that stand above; None if it is wrong somewhere."""
+    if not isinstance(tree, (tuple, list)):
+        return None
+    if len(tree) == 4:
+        return plain_ask(tree, above, met) if tree[0] == "ask" else None
+    if len(tree) != 3 or tree[0] != "end" or not isinstance(tree[1], str):
+        return None
+    made = met_made(tree[2], met.paths)
+    if made is None:
+        return None
+    met.end = tree
+    met.plain = ("end", tree[1], made)
+    return met.plain
 
 
-def plain_ask(look, tree, place, above, met):
+def plain_ask(tree, above, met):
+    look = met_look(tree[1], met.paths)
+    if look is None or look in above or not isinstance(tree[2], (tuple, list)):
+        return None
     above[look] = True
+    is_folder = look[0] == "list"
+    folders = met.folders
     cases = {}
-    for k, case in enumerate(tree[2]):
-        told = met_answer(look[0], case[0], met.marks) if is_list(case) and len(case) == 2 else None
-        if told is None or told[0] in cases:
-            raise BadStep((*place, k))
-        cases[told[0]] = plain_tree(case[1], (*place, k), above, met)
-    other = plain_tree(tree[3], (*place, len(cases)), above, met)
+    for case in tree[2]:
+        part = None
+        if isinstance(case, (tuple, list)) and len(case) == 2:
+            answer, below = case
+            is_right = answer is None or (answer in folders if is_folder else isinstance(answer, str))
+            if not is_right and is_folder:
+                answer = folder_met(answer, folders)
+                is_right = answer is not None
+            if is_right and answer not in cases:
+                part = met.plain if below == met.end else plain_tree(below, above, met)
+        if part is None:
+            met.place.append(len(cases))
+            return None
+        cases[answer] = part
+    other = met.plain if tree[3] == met.end else plain_tree(tree[3], above, met)
+    if other is None:
+        met.place.append(len(cases))
+        return None
     # The same look may stand again beside this ask, but not below it.
     del above[look]
     return ("ask", look, tuple(cases.items()), other)
+
+
+def folder_met(thing, folders):
+    """The answer of a folder as a tuple, None if it is none."""
+    told = plain_marks(thing)
+    if told is not None and len(folders) < MOST_FOLDERS:
+        folders.append(told)
+    return told
 
 
 def looks_of(tree, found):

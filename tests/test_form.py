@@ -253,6 +253,7 @@ class IterationTest(unittest.TestCase):
             for node in ast.walk(tree):
                 if called(node) == "set" or isinstance(node, ast.SetComp):
                     self.assertIn(called(above[node]), ("sorted", "len"), (name, node.lineno))
+                    self.assertEqual(above[node].keywords, [], (name, node.lineno))
 
     def test_loops_do_not_change_what_they_go_over(self):
         changing = ("append", "clear", "extend", "insert", "pop", "remove", "reverse", "setdefault", "update")
@@ -279,6 +280,24 @@ class IterationTest(unittest.TestCase):
 
 
 class OperatorsTest(unittest.TestCase):
+    def test_operators_call_nothing_that_objects_may_hold(self):
+        # A call by a name that some object keeps something under counts as a call of what it holds.
+        held = [node.attr for _, node in nodes(ast.Attribute) if isinstance(node.ctx, ast.Store)]
+        told = {}
+        for _, kind in nodes(ast.ClassDef):
+            told.setdefault(kind.name, []).extend(one for one in kind.body if getattr(one, "name", "") == "__init__")
+        for _, function in nodes(ast.FunctionDef):
+            told.setdefault(function.name, []).append(function)
+        line = [one for name in DOUBLE if name not in ("__init__", "__iter__") for one in told.get(name, [])]
+        seen = []
+        while line:
+            function = line.pop()
+            seen.append(function)
+            for node in ast.walk(function):
+                if isinstance(node, ast.Call) and isinstance(node.func, ast.Attribute):
+                    self.assertNotIn(node.func.attr, held, (function.name, node.lineno))
+                line.extend(one for one in told.get(called(node), []) if one not in seen and one not in line)
+
     def test_what_is_filled_item_by_item_is_handed_to_no_call(self):
         # Operators change only what they created, and this rule tells it of the items of a dict.
         for name, function in nodes(ast.FunctionDef):
