@@ -43,8 +43,12 @@ class Build:
 
 def needs_of(work, run):
     """The steps that a run looked into, each once."""
+    return needs_in(work, run.sights)
+
+
+def needs_in(work, sights):
     found = []
-    for look in looks_in(run):
+    for look, _ in sights:
         name = work.need(look)
         if name is not None and name not in found:
             found.append(name)
@@ -128,7 +132,13 @@ def first_lacking(work, runs):
 
 def why_ringed(work, runs):
     """("ring", names) if runs, which lack none that they need, need one another in a ring, else None."""
-    left = {name: needs_of(work, runs[name]) for name in runs}
+    ring = ring_in(work, {name: needs_of(work, runs[name]) for name in runs})
+    return None if ring is None else ("ring", ring)
+
+
+def ring_in(work, needs):
+    """A ring in which names need one another, None if there is none; needs is a dict from them to lists."""
+    left = needs
     ready = [True]
     while ready:
         ready = [name for name in left if not any([other in left for other in left[name]])]
@@ -137,7 +147,7 @@ def why_ringed(work, runs):
         return None
     # Each of those left needs another one of them.
     next_of = {name: [other for other in left[name] if other in left][0] for name in left}
-    return ("ring", ring_behind(work, list(left)[0], next_of))
+    return ring_behind(work, list(left)[0], next_of)
 
 
 def ends_of(work, sources, books):

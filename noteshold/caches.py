@@ -117,6 +117,14 @@ class Cache:
         return isinstance(other, Cache) and self.rule == other.rule and self._entries == other._entries
 
 
+def with_entries(cache, entries):
+    """The cache with further entries, told in tuples, behind its own, whose notes are kept."""
+    made = Cache(cache.rule)
+    made._entries = [*cache._entries, *entries]
+    made._notes = [*cache._notes, *[cache.rule.note(run) for _, _, run in entries]]
+    return made
+
+
 def checked_entries(entries):
     """The list of the entries in tuples."""
     if not is_list(entries):

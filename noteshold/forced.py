@@ -189,11 +189,15 @@ def again_needed(work, runs, later):
     why = why_never_together(work, told)
     if why is not None:
         raise NotTogether(why)
-    left = settled_runs(work, later, {name: Book([told[name]]) for name in told})
+    return words_in(work, told, later, settled_runs(work, later, {name: Book([told[name]]) for name in told}))
+
+
+def words_in(work, runs, later, left):
+    """What is sure of each name of runs in later sources, where these are the runs that are settled there."""
     tree = tree_by(work, later, left)
     found = {}
-    for name in told:
-        sights = [sight for sight in told[name].sights if work.need(sight[0]) is None or work.need(sight[0]) in left]
+    for name in runs:
+        sights = [sight for sight in runs[name].sights if work.need(sight[0]) is None or work.need(sight[0]) in left]
         is_true = all([tree.shown(look) == answer for look, answer in sights])
         found[name] = "left" if name in left else "open" if is_true else "run"
     return found

@@ -5,7 +5,7 @@ from noteshold.plain import is_list, met_look, met_made, plain_made, plain_marks
 from noteshold.sights import least, plain_sight, raise_apart
 
 # So many answers of folders are looked for again in a tree of choices: more would cost more than they save.
-MOST_FOLDERS = 8
+MOST_LISTED = 8
 
 
 class Step:
@@ -100,7 +100,7 @@ class Met:
 
     def __init__(self):
         self.paths = {}
-        self.folders = []
+        self.listed = []
         # The last end as it was told, and in tuples.
         self.end = None
         self.plain = None
@@ -129,15 +129,15 @@ def plain_ask(tree, above, met):
         return None
     above[look] = True
     is_folder = look[0] == "list"
-    folders = met.folders
+    listed = met.listed
     cases = {}
     for case in tree[2]:
         part = None
         if isinstance(case, (tuple, list)) and len(case) == 2:
             answer, below = case
-            is_right = answer is None or (answer in folders if is_folder else isinstance(answer, str))
+            is_right = answer is None or (answer in listed if is_folder else isinstance(answer, str))
             if not is_right and is_folder:
-                answer = folder_met(answer, folders)
+                answer = folder_met(answer, listed)
                 is_right = answer is not None
             if is_right and answer not in cases:
                 part = met.plain if below == met.end else plain_tree(below, above, met)
@@ -154,11 +154,11 @@ def plain_ask(tree, above, met):
     return ("ask", look, tuple(cases.items()), other)
 
 
-def folder_met(thing, folders):
+def folder_met(thing, listed):
     """The answer of a folder as a tuple, None if it is none."""
     told = plain_marks(thing)
-    if told is not None and len(folders) < MOST_FOLDERS:
-        folders.append(told)
+    if told is not None and len(listed) < MOST_LISTED:
+        listed.append(told)
     return told
 
 

@@ -143,8 +143,14 @@ class StatementsTest(unittest.TestCase):
     def test_handlers_name_own_errors(self):
         own = [node.name for _, node in nodes(ast.ClassDef)]
         for name, node in nodes(ast.Try):
-            self.assertEqual((node.orelse, node.finalbody), ([], []), name)
-            self.assertTrue(all(one.type.id in own and one.name is None for one in node.handlers), name)
+            self.assertEqual(node.orelse, [], name)
+            for one in node.finalbody:
+                told = [one.value] + one.targets
+                told = [part for row in told for part in (row.elts if isinstance(row, ast.Tuple) else [row])]
+                self.assertTrue(all(isinstance(part, (ast.Name, ast.Attribute)) for part in told), name)
+            for one in node.handlers:
+                kinds = one.type.elts if isinstance(one.type, ast.Tuple) else [one.type]
+                self.assertTrue(all(kind.id in own for kind in kinds) and one.name is None, name)
 
     def test_is(self):
         for name, node in nodes(ast.Compare):
@@ -201,8 +207,31 @@ class NamesTest(unittest.TestCase):
                 self.assertIn(node.func.attr, METHODS + own, (name, node.lineno))
                 if node.func.attr in METHODS and node.func.attr not in own:
                     self.assertEqual(node.keywords, [], (name, node.lineno))
+        # A workshop is copied; nothing else is, so that this is told by its name alone.
         for word in own:
-            self.assertNotIn(word, METHODS)
+            self.assertFalse(word in METHODS and word != "copy", word)
+        self.assertEqual([name for name, node in nodes(ast.Call) if called(node) == "copy"], [])
+
+    def test_names_of_methods_are_names_of_no_attributes(self):
+        own = [part.name for _, kind in nodes(ast.ClassDef) for part in kind.body if isinstance(part, ast.FunctionDef)]
+        stored = [node.attr for _, node in nodes(ast.Attribute) if isinstance(node.ctx, ast.Store)]
+        self.assertEqual([word for word in stored if word in own], [])
+        for _, node in nodes(ast.Attribute):
+            if isinstance(node.value, ast.Name) and node.value.id == "self" and isinstance(node.ctx, ast.Load):
+                self.assertTrue(node.attr in stored or node.attr in own, node.attr)
+
+    def test_methods_are_called_where_they_stand(self):
+        own = [part.name for _, kind in nodes(ast.ClassDef) for part in kind.body if isinstance(part, ast.FunctionDef)]
+        for name, tree in TREES.items():
+            calls = [node.func for node in ast.walk(tree) if isinstance(node, ast.Call)]
+            for node in ast.walk(tree):
+                if isinstance(node, ast.Attribute) and node.attr in own + METHODS and node.attr != "index":
+                    self.assertIn(node, calls, (name, node.lineno, node.attr))
+
+    def test_no_string_within_an_f_string(self):
+        for name, node in nodes(ast.FormattedValue):
+            told = [part for part in ast.walk(node.value) if isinstance(part, ast.Constant) and isinstance(part.value, str)]
+            self.assertEqual(told, [], (name, node.lineno))
 
     def test_methods_and_attributes_of_one_class(self):
         for name, node in nodes(ast.ClassDef):
