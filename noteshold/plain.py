@@ -19,15 +19,17 @@ def is_name(thing):
 
 
 def is_path(thing):
-    if not isinstance(thing, str):
+    return isinstance(thing, str) and is_path_text(thing)
+
+
+def is_path_text(text):
+    """Whether a string is a path."""
+    if not text.isascii() or text != text.lower():
         return False
-    signs = thing.replace("/", "")
-    if not signs.isalnum() or not signs.isascii() or signs != signs.lower():
-        return False
-    if len(signs) <= LONGEST_NAME and "//" not in thing:
-        return thing[0] != "/" and thing[-1] != "/"
-    for name in thing.split("/"):
-        if not 0 < len(name) <= LONGEST_NAME:
+    if text.isalnum():
+        return len(text) <= LONGEST_NAME
+    for name in text.split("/"):
+        if not name.isalnum() or len(name) > LONGEST_NAME:
             return False
     return True
 
@@ -58,13 +60,18 @@ def plain_look(thing):
 
 
 def met_look(thing, paths):
-    if not isinstance(thing, (tuple, list)) or len(thing) != 2:
-        return None
-    word, path = thing
-    if word not in LOOKS or not isinstance(path, str) or path not in paths and not is_path(path):
-        return None
-    paths[path] = True
-    return (word, path)
+    """The same; paths that were met are kept in paths, so that none is judged twice."""
+    match thing:
+        case [word, path]:
+            if word not in LOOKS or not isinstance(path, str):
+                return None
+            if path not in paths:
+                if not is_path_text(path):
+                    return None
+                paths[path] = True
+            return (word, path)
+        case _:
+            return None
 
 
 def bare(mark):
@@ -103,22 +110,35 @@ def plain_made(thing):
 
 
 def met_made(thing, paths):
-    """The same; paths that were met are kept in paths, so that none is judged twice."""
-    if not isinstance(thing, (tuple, list)):
+    """The same; paths that were met are kept in paths, as above."""
+    match thing:
+        case []:
+            return ()
+    if not isinstance(thing, (list, tuple)):
         return None
     made = []
     for pair in thing:
-        if not isinstance(pair, (tuple, list)) or len(pair) != 2:
-            return None
-        path, text = pair
-        if not isinstance(text, str) or not isinstance(path, str) or path not in paths and not is_path(path):
-            return None
-        paths[path] = True
-        made.append((path, text))
-    if len(made) < 2:
-        return tuple(made)
-    made = sorted(made)
+        match pair:
+            case [path, text]:
+                if not isinstance(text, str) or not isinstance(path, str):
+                    return None
+                if path not in paths:
+                    if not is_path_text(path):
+                        return None
+                    paths[path] = True
+                made.append((path, text))
+            case _:
+                return None
+    return tuple(made) if len(made) == 1 else ordered_made(made)
+
+
+def ordered_made(made):
+    """Pairs of a path and a text as an ascending tuple, None if one path is that of another pair, or beneath it."""
+    told = sorted(made)
     # A stroke comes ahead of all signs of names, so what is beneath a path stands right behind it.
-    if any([is_kin(made[k][0], made[k + 1][0]) for k in range(len(made) - 1)]):
-        return None
-    return tuple(made)
+    last = told[0][0]
+    for path, _ in told[1:]:
+        if path.startswith(last) and is_kin(last, path):
+            return None
+        last = path
+    return tuple(told)

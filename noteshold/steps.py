@@ -109,49 +109,53 @@ class Met:
 
 def plain_tree(tree, above, met):
     """The tree of choices in tuples, below looks that stand above; None if it is wrong somewhere."""
-    if not isinstance(tree, (tuple, list)):
-        return None
-    if len(tree) == 4:
-        return plain_ask(tree, above, met) if tree[0] == "ask" else None
-    if len(tree) != 3 or tree[0] != "end" or not isinstance(tree[1], str):
-        return None
-    made = met_made(tree[2], met.paths)
-    if made is None:
-        return None
-    met.end = tree
-    met.plain = ("end", tree[1], made)
-    return met.plain
+    if tree == met.end:
+        return met.plain
+    match tree:
+        case [word, outcome, files]:
+            if word != "end" or not isinstance(outcome, str):
+                return None
+            made = met_made(files, met.paths)
+            if made is None:
+                return None
+            met.end = tree
+            met.plain = ("end", outcome, made)
+            return met.plain
+        case [word, thing, ways, other]:
+            return plain_ask(thing, ways, other, above, met) if word == "ask" else None
+        case _:
+            return None
 
 
-def plain_ask(tree, above, met):
-    look = met_look(tree[1], met.paths)
-    if look is None or look in above or not isinstance(tree[2], (tuple, list)):
+def plain_ask(thing, ways, other, above, met):
+    look = met_look(thing, met.paths)
+    if look is None or look in above or not isinstance(ways, (list, tuple)):
         return None
     above[look] = True
-    is_folder = look[0] == "list"
-    listed = met.listed
+    listed = met.listed if look[0] == "list" else None
     cases = {}
-    for case in tree[2]:
-        part = None
-        if isinstance(case, (tuple, list)) and len(case) == 2:
-            answer, below = case
-            is_right = answer is None or (answer in listed if is_folder else isinstance(answer, str))
-            if not is_right and is_folder:
-                answer = folder_met(answer, listed)
-                is_right = answer is not None
-            if is_right and answer not in cases:
-                part = met.plain if below == met.end else plain_tree(below, above, met)
+    for case in ways:
+        told, part = None, None
+        match case:
+            case [answer, below]:
+                if answer is None or (isinstance(answer, str) if listed is None else answer in listed):
+                    told, is_right = answer, True
+                else:
+                    told = None if listed is None else folder_met(answer, listed)
+                    is_right = told is not None
+                if is_right and told not in cases:
+                    part = plain_tree(below, above, met)
         if part is None:
-            met.place.append(len(cases))
-            return None
-        cases[answer] = part
-    other = met.plain if tree[3] == met.end else plain_tree(tree[3], above, met)
-    if other is None:
-        met.place.append(len(cases))
-        return None
-    # The same look may stand again beside this ask, but not below it.
-    del above[look]
-    return ("ask", look, tuple(cases.items()), other)
+            break
+        cases[told] = part
+    else:
+        last = plain_tree(other, above, met)
+        # The same look may stand again beside this ask, but not below it.
+        del above[look]
+        if last is not None:
+            return ("ask", look, tuple(cases.items()), last)
+    met.place.append(len(cases))
+    return None
 
 
 def folder_met(thing, listed):

@@ -22,7 +22,8 @@ methodcaller os quit setattr super type vars sys""".split()
 BARRED_WORDS = """typing typing_extensions enum Enum IntEnum StrEnum Flag IntFlag Generic Protocol ABC ABCMeta namedtuple
 NamedTuple TypedDict TYPE_CHECKING abstractmethod""".split()
 STATEMENTS = (ast.Assign, ast.AugAssign, ast.If, ast.While, ast.For, ast.Return, ast.Break, ast.Continue, ast.Pass,
-              ast.Raise, ast.Assert, ast.Delete, ast.Expr, ast.FunctionDef, ast.ClassDef, ast.ImportFrom, ast.Try)
+              ast.Raise, ast.Assert, ast.Delete, ast.Expr, ast.FunctionDef, ast.ClassDef, ast.ImportFrom, ast.Try,
+              ast.Match)
 AT_ONCE = ("zip", "enumerate", "reversed", "range", "items", "keys", "values")
 TAKE = ("list", "tuple", "dict", "sorted", "sum", "any", "all", "enumerate", "zip", "min", "max")
 
@@ -133,6 +134,19 @@ class StatementsTest(unittest.TestCase):
             self.assertTrue(all(getattr(one, "id", "") == "staticmethod" for one in node.decorator_list), place)
             if node.name.startswith("__"):
                 self.assertIn(node.name, DOUBLE, place)
+
+    def test_patterns_are_rows_of_names(self):
+        for name, function in nodes(ast.FunctionDef):
+            for node in [one for one in ast.walk(function) if isinstance(one, ast.Match)]:
+                caught = []
+                for case in node.cases:
+                    self.assertIsNone(case.guard, (name, function.name))
+                    inner = case.pattern.patterns if isinstance(case.pattern, ast.MatchSequence) else [case.pattern]
+                    self.assertTrue(all(isinstance(one, ast.MatchAs) and one.pattern is None for one in inner), name)
+                    caught.extend(one.name for one in inner)
+                    if inner and not isinstance(case.pattern, ast.MatchSequence):
+                        self.assertIs(case, node.cases[-1])
+                self.assertEqual([word for word in bound_in(function) if word in caught], [], (name, function.name))
 
     def test_raise_makes_its_error(self):
         for name, node in nodes(ast.Raise):
