@@ -1,5 +1,6 @@
 """Runs every test file test_*.py in the folders that are told, and ends with a line of the count of tests."""
 
+import concurrent.futures
 import os
 import pathlib
 import re
@@ -13,7 +14,7 @@ SKIPPED = re.compile(r"\bskipped=(\d+)")
 
 
 def run_file(path):
-    """Runs one file by itself: the numbers of its tests that ran, went wrong and were skipped."""
+    """Runs one file by itself: the numbers of its tests that ran, went wrong and were skipped, and what it printed."""
     places = os.pathsep.join([str(ROOT), str(path.parent)])
     told = subprocess.run([sys.executable, "-m", "unittest", "-v", path.stem], cwd=path.parent, text=True,
                           stdin=subprocess.DEVNULL, stdout=subprocess.PIPE, stderr=subprocess.STDOUT,
@@ -26,15 +27,19 @@ def run_file(path):
     # 5 is how later Pythons say that a file has no test.
     if wrong == 0 and told.returncode not in (0, 5):
         wrong, ran = 1, max(ran, 1)
-    print(f"{path}: {ran} ran, {wrong} failed", flush=True)
-    if wrong:
-        print(told.stdout, flush=True)
-    return ran, wrong, skipped
+    return ran, wrong, skipped, told.stdout
 
 
 def main(folders):
     files = [path for folder in folders for path in sorted((ROOT / folder).resolve().rglob("test_*.py"))]
-    told = [run_file(path) for path in files]
+    told = []
+    # Each file runs in a process of its own, so they run side by side; what they tell comes in their order.
+    with concurrent.futures.ThreadPoolExecutor(os.cpu_count() or 1) as pool:
+        for path, row in zip(files, pool.map(run_file, files)):
+            told.append(row)
+            print(f"{path}: {row[0]} ran, {row[1]} failed", flush=True)
+            if row[1]:
+                print(row[3], flush=True)
     ran, wrong, skipped = [sum(row[k] for row in told) for k in range(3)]
     print(f"tests that ran: {ran}")
     print(f"{ran - wrong - skipped} passed, {wrong} failed, {skipped} skipped")

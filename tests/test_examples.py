@@ -1,4 +1,4 @@
-"""The examples of section 14, as far as their files are written."""
+"""The examples of section 14."""
 
 import unittest
 
@@ -6,10 +6,13 @@ from noteshold.builds import build, together
 from noteshold.choices import choices, first
 from noteshold.index import Index, Row
 from noteshold.reasons import reasons
+from noteshold.rules import Rule
+from noteshold.stages import Stage
 from noteshold.steps import Step
 from noteshold.trees import Tree, touched
 from noteshold.versions import Range
 from noteshold.works import Work
+from noteshold.workshop import Workshop
 
 
 class ExamplesTest(unittest.TestCase):
@@ -42,6 +45,16 @@ class ExamplesTest(unittest.TestCase):
         made = build(work, {"app": app, "lib": lib}, Tree({"src": "s"}), ["app"])
         told = [list(made.runs), made.order(), made.runs["app"].outcome, together(work, Tree({"src": "t"}), made.runs)]
         self.assertEqual(told, [["app", "lib"], ["lib", "app"], "good", ("untrue", "lib", 0)])
+
+    def test_workshop(self):
+        lib = Step(("ask", ("read", "src"), [(None, ("end", "none", []))], ("end", "ok", [("x", "1")])))
+        app = Step(("ask", ("read", "lib/x"), [("1", ("end", "good", []))], ("end", "bad", [])))
+        stage = Stage({"main": Tree({"src": "s"}), "store": Tree()}, {"home": ("main", "store", "c")})
+        shop = Workshop(stage, {"lib": lib, "app": app}, Rule([("contents", None)]))
+        told = [shop.do(("build", "home")), shop.do(("edit", "main", [("put", "src", "t")])), shop.do(("build", "home"))]
+        self.assertEqual([told, shop.is_clean("home")],
+                         [[[("lib", "ran", "ok"), ("app", "ran", "good")], None, [("lib", "ran", "ok"), ("app", "left", "good")]],
+                          True])
 
 
 if __name__ == "__main__":

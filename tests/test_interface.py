@@ -6,6 +6,15 @@ import re
 import unittest
 
 from noteshold import errors
+from noteshold.builds import build
+from noteshold.caches import Cache
+from noteshold.forced import rebuilt
+from noteshold.hands import weave
+from noteshold.histories import judged
+from noteshold.index import Row
+from noteshold.rules import Rule
+from noteshold.stages import Stage
+from noteshold.steps import Run
 from noteshold.trees import Tree
 from noteshold.works import Work
 
@@ -48,6 +57,21 @@ FUNCTIONS = {
                 "is_closed(index, wishes, one, goal, thing)",
     "roads": "roads(work, sources, runs, name), is_road(work, sources, runs, name, sights), "
              "parted(work, sources, runs, name, sights)",
+    "words": "words(work, sources, runs, now), not_left(work, sources, runs, change), "
+             "words_by(work, sources, runs, now, choice), quiet(work, sources, runs, now)",
+    "keys": "view(index, choice, package), is_key(index, wishes, package, packages), keys(index, wishes, package), "
+            "twins(index, wishes, package, packages), view_runs(index, choice, package)",
+    "stages": "moments(stage, history), keeps_to(manners, name, run), table(stage, deeds), is_table(stage, deeds, thing)",
+    "histories": "judged(stage, deeds, manners, rule), least_rules(stage, deeds, manners, kept), "
+                 "locked(stage, deeds, manners, patterns), least_locks(stage, deeds, manners, patterns)",
+    "hands": "weave(work, steps, sources, stood, deeds), keeps(work, steps, sources, stood, deeds, holds), "
+             "least_holds(work, steps, sources, stood, wanted), "
+             "bad_weaving(work, steps, sources, stood, wanted, index), may_begin(work, sources, books, stood, name)",
+    "times": "chain_time(work, runs, lengths), least_time(work, runs, lengths, hands), "
+             "is_plan(work, runs, lengths, hands, thing)",
+    "texts": "write_tree(tree), read_tree(text), write_run(run), read_run(text), write_runs(runs), read_runs(text)",
+    "step_texts": "write_step(step), read_step(text)",
+    "stage_texts": "write_stage(stage), read_stage(text), write_deeds(deeds), read_deeds(text)",
 }
 
 CLASSES = {
@@ -69,12 +93,21 @@ CLASSES = {
                                            "answer(name, tree), poisoned(), clash(), answers_in(index), "
                                            "missed_in(index), never(), idle(), lean(), least(asks), shared(facts), "
                                            "foreign(facts), for_house(facts), __iter__(), __len__(), __eq__(other)",
+    ("stages", "Stage(shelves, houses)"): "shelves(), houses(), sources(house), after(history), __eq__(other)",
+    ("workshop", "Workshop(stage, steps, rule)"): "do(deed), stage(), cache(name), runs_of(house), tree(house), "
+                                                  "is_clean(house), deeds(), undo(), again(), copy(), trial(work), "
+                                                  "__len__()",
 }
+
+# The attributes that the interface lists for objects that callers make.
+KEPT = {"Run": ["sights", "outcome", "made"], "Cache": ["rule"], "Row": ["features", "needs", "clashes"]}
 
 # Classes of which the package alone makes objects: their methods, and the attributes that each object has.
 MADE = {
     ("builds", "Build"): ("made_files(), tree(), order(), ring(), __eq__(other)", ["runs", "waits"]),
     ("forced", "Rebuilt"): ("", ["ran", "books", "build"]),
+    ("histories", "Fault"): ("", ["history", "steps", "chain"]),
+    ("hands", "Woven"): ("tree(), torn(), untrue(), redo(wanted), is_right(wanted)", ["done", "doing"]),
 }
 
 
@@ -111,17 +144,24 @@ class InterfaceTest(unittest.TestCase):
                 self.assertEqual(shown(vars(kind)[method]), told)
 
     def test_classes_made_by_the_package(self):
-        build = importlib.import_module("noteshold.builds").build(Work([]), {}, Tree(), [])
-        rebuilt = importlib.import_module("noteshold.forced").rebuilt(Work([]), {}, Tree(), {}, [])
+        work, tree = Work([]), Tree()
+        stage = Stage({"a": Tree({"x": ""}), "b": tree}, {"h": ("a", "b", "c")})
+        made = {"Build": build(work, {}, tree, []), "Rebuilt": rebuilt(work, {}, tree, {}, []),
+                "Woven": weave(work, {}, tree, {}, []),
+                "Fault": judged(stage, [("edit", "a", [("drop", "x")])], {"p": (["x"], [])}, Rule([]))}
         for (file, name), (text, attributes) in MADE.items():
             kind = getattr(importlib.import_module("noteshold." + file), name)
             self.assertEqual((kind.__module__, kind.__name__), ("noteshold." + file, name))
             for method, told in calls_in(text):
                 self.assertIn(method, vars(kind))
                 self.assertEqual(shown(vars(kind)[method]), told)
-            thing = build if isinstance(build, kind) else rebuilt
-            self.assertIsInstance(thing, kind)
-            self.assertTrue(all(attribute in vars(thing) for attribute in attributes))
+            self.assertIsInstance(made[name], kind)
+            self.assertTrue(all(attribute in vars(made[name]) for attribute in attributes))
+
+    def test_attributes(self):
+        for thing in (Run([], ""), Cache(Rule([])), Row()):
+            for attribute in KEPT[type(thing).__name__]:
+                self.assertIn(attribute, vars(thing))
 
     def test_static_methods(self):
         for file, name in [("versions", "Range"), ("index", "Row")]:
