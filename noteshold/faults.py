@@ -23,7 +23,8 @@ def steps_that_show(manners, sources, chain):
         if name in looks:
             told = firsts if looks[name] in firsts else [*firsts, looks[name]]
             sights = [(look, tree.shown(look)) for look in told]
-            found[name] = Step(asks_for(sights, len(firsts), *made[name]))
+            here, there = made[name]
+            found[name] = Step(asks_for(sights, len(firsts), here, there))
         else:
             found[name] = Step(asks_without(firsts, ()))
     return found

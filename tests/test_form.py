@@ -166,6 +166,11 @@ class StatementsTest(unittest.TestCase):
                 kinds = one.type.elts if isinstance(one.type, ast.Tuple) else [one.type]
                 self.assertTrue(all(kind.id in own for kind in kinds) and one.name is None, name)
 
+    def test_no_stars_in_calls(self):
+        for name, node in nodes(ast.Call):
+            self.assertFalse(any(isinstance(one, ast.Starred) for one in node.args), (name, node.lineno))
+            self.assertTrue(all(one.arg is not None for one in node.keywords), (name, node.lineno))
+
     def test_is(self):
         for name, node in nodes(ast.Compare):
             for sign, other in zip(node.ops, node.comparators):
