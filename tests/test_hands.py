@@ -9,9 +9,11 @@ from noteshold.builds import build
 from noteshold.errors import (BadDeed, BadHold, BadIndex, BadName, BadPath, BadSources, Blocked, OwnFolder, Waiting)
 from noteshold.forced import two_works
 from noteshold.hands import Woven, bad_weaving, keeps, least_holds, may_begin, weave
+from noteshold.index import Index, Row, wish_text
 from noteshold.sights import bars
 from noteshold.steps import Run, Step
 from noteshold.trees import Tree
+from noteshold.versions import Range
 from noteshold.works import Work
 from tests.houses import some_books, some_work
 from tests.worlds import odd_things, raised, read
@@ -389,6 +391,42 @@ class EarlyTest(unittest.TestCase):
             self.assertEqual(getattr(raised(error, lambda: may_begin(WORK, sources, books, stood, "other")), word), told)
         for thing in odd_things():
             self.assertIs(raised(BadName, lambda: may_begin(WORK, SRC, {}, {}, thing)).name, thing)
+
+
+class LimitsTest(unittest.TestCase):
+    def test_many_deeds_of_six_steps(self):
+        """Five steps, each of which looks into the folders of those ahead of it, and the chooser, by four hands."""
+        rows = {(name, version): Row(needs=[(None, [(other, Range([(1, 20)]))], []) for other in "bc" if other > name])
+                for name in "abc" for version in range(1, 6)}
+        sources = Tree({"wish": wish_text([("a", Range([(1, 20)]), [])]), **Index(rows).files()})
+        names = ["lock", "s1", "s2", "s3", "s4", "s5"]
+        steps = {}
+        for place, name in enumerate(names[1:]):
+            tree = ("end", "", [("x", str(place))])
+            for other in names[max(0, place - 3):place + 1]:
+                tree = ("ask", ("list", other), [(None, ("end", "none", []))], tree)
+            steps[name] = Step(tree)
+        work = Work(names)
+        clean = build(work, steps, sources, names)
+        chance = random.Random(1)
+        for _ in range(2):
+            deeds = []
+            while len(deeds) < 120:
+                hand, name = chance.choice("abcd"), chance.choice(names)
+                deed = chance.choice([("begin", hand, name), *[("on", hand)] * 6])
+                try:
+                    woven = weave(work, steps, sources, {}, [*deeds, deed])
+                    deeds.append(deed)
+                except BadDeed:
+                    pass
+            ends = {name: (run.sights, run.outcome, run.made) for name, run in clean.runs.items()}
+            self.assertEqual(woven.is_right(names), woven.done == ends)
+        holds = least_holds(work, steps, sources, {}, names)
+        deeds = [deed for name in clean.order() for deed in [("begin", "a", name), *[("on", "a")] * (len(clean.runs[name]) + 1)]]
+        self.assertTrue(keeps(work, steps, sources, {}, deeds, holds))
+        self.assertTrue(weave(work, steps, sources, {}, deeds).is_right(names))
+        for index in range(len(holds)):
+            self.assertFalse(weave(work, steps, sources, {}, bad_weaving(work, steps, sources, {}, names, index)).is_right(names))
 
 
 if __name__ == "__main__":

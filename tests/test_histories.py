@@ -7,7 +7,7 @@ import unittest
 from noteshold.errors import BadDeed, BadHouse, BadKept, BadManner, BadPattern, NoteError
 from noteshold.histories import Fault, judged, least_locks, least_rules, locked
 from noteshold.rules import SORTS, Rule
-from noteshold.stages import Stage, keeps_to, moments
+from noteshold.stages import Stage, keeps_to, moments, table
 from noteshold.steps import Run
 from noteshold.trees import Tree
 from tests import branches
@@ -350,6 +350,61 @@ class ErrorsTest(unittest.TestCase):
         for call in self.calls(stage=Stage(shelves, houses)):
             self.assertEqual(raised(BadHouse, call).name, "k")
         raised(BadKept, lambda: least_rules(Stage(shelves, {"a": houses["a"]}), [], MANNERS, [7]))
+
+
+class LimitsTest(unittest.TestCase):
+    """Three hundred stages, six steps that hang on one another, rules and locks chosen among eight."""
+
+    NAMES = ["p", "q", "r", "s", "t", "u"]
+
+    def world(self):
+        files = {"lock/r": "x", "src/a": "0", "src/b": "0", "src/c/d": "0"}
+        got = {"got/x/f": "0", "got/y/f": "0"}
+        stage = Stage({"main": Tree(files), "feat": Tree({**files, "src/a": "9"}), "store": Tree(got), "late": Tree()},
+                      {"one": ("main", "store", "c"), "two": ("feat", "store", "c"), "tri": ("feat", "late", "d")})
+        deeds = [("edit", "main", [("put", "src/a", "1")]), ("edit", "main", [("put", "lock/r", "y")]),
+                 ("edit", "store", [("put", "got/x/f", "1")]), ("edit", "store", [("put", "got/y/f", "1")]),
+                 ("edit", "feat", [("put", "src/b", "1")]), ("edit", "main", [("put", "src/c/d", "1")]),
+                 ("edit", "main", [("drop", "src/b")]), ("edit", "feat", [("put", "src/a", "8")])]
+        manners = {}
+        for place, name in enumerate(self.NAMES):
+            ahead = self.NAMES[:place]
+            firsts = [f"{other}/x" for other in ahead[-1:]] + ["lock/r"] + ([] if place else ["src/a"])
+            manners[name] = (firsts, [f"{other}/**" for other in ahead[-3:]] + [["src/**", "got/@r/*"][place % 2]])
+        return stage, deeds, manners
+
+    def test_many_stages(self):
+        stage, deeds, manners = self.world()
+        self.assertEqual(len(table(stage, deeds)), 256)
+        self.assertIsNone(judged(stage, deeds, manners, Rule(ALL)))
+        for rule in (Rule([]), Rule(ALL[:3]), Rule(ALL) & ~Rule([("contents", "t")]), Rule(ALL) & ~Rule([("names", "got")])):
+            fault = judged(stage, deeds, manners, rule)
+            if fault is not None:
+                FaultsTest.holds(self, stage, deeds, manners, rule, fault)
+        self.assertIsNotNone(judged(stage, deeds, manners, Rule([])))
+
+    def shows(self, manners, fault):
+        FaultsTest.shows(self, manners, fault)
+
+    def runs_of_ways(self, tree, sights):
+        return FaultsTest.runs_of_ways(self, tree, sights)
+
+    def test_chosen_among_eight(self):
+        stage, deeds, manners = self.world()
+        kept = [*ALL, *[("contents", name) for name in ("src", "got", "lock", "p")]]
+        found = least_rules(stage, deeds, manners, kept)
+        for numbers in found:
+            self.assertIsNone(judged(stage, deeds, manners, Rule([kept[k] for k in numbers])))
+            for k in numbers:
+                self.assertIsNotNone(judged(stage, deeds, manners, Rule([kept[j] for j in numbers if j != k])))
+        self.assertIn((0, 1, 2, 3), found)
+        patterns = ["src/*", "src/**", "got/@r/*", "got/**", "lock/*", "**", "src/c/*", "src/a"]
+        found = least_locks(stage, deeds, manners, patterns)
+        self.assertIn((5,), found)
+        for numbers in found:
+            self.assertIsNone(locked(stage, deeds, manners, [patterns[k] for k in numbers]))
+            for k in numbers:
+                self.assertIsNotNone(locked(stage, deeds, manners, [patterns[j] for j in numbers if j != k]))
 
 
 if __name__ == "__main__":
