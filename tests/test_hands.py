@@ -110,7 +110,7 @@ class WeavingsTest(unittest.TestCase):
         bad = odd_things() + [("begin", "a", "lib"), ("begin", "b", "app"), ("begin", "b", "none"), ("begin", "B", "lib"),
                               ("begin", 7, "lib"), ("begin", "b"), ("on", "b"), ("on",), ("on", "a", "b"), ("stop", "b"),
                               ("on", "app"), (["on"], "a"), ("take", "app", APP.run(SRC)), ("take", "none", run),
-                              ("take", "lib", other), ("take", "lib", own), ("take", "lib", 7), ("take", "lib"),
+                              ("take", "lib", other), ("take", "lib", own), ("take", "lib", 7), ("take", "lib"), ("give", "lib", run), ("take", "lib", run, run), ("give", "a"),
                               ("begin", ["b"], "lib"), ("begin", "b", ["lib"]), ("begin", "b", {}), ("on", {})]
         for thing in bad:
             for deeds in ([*held, thing], [*held, thing, 7]):

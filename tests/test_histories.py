@@ -109,6 +109,27 @@ class FaultsTest(unittest.TestCase):
         fault = judged(PLAIN, [EDIT], manners, rule)
         self.holds(PLAIN, [EDIT], manners, rule, fault)
 
+    def test_what_is_seen_far_down(self):
+        """A step that sees another one, which sees a third: by firsts, pinned or not, whatever the order they are told in."""
+        worlds = [({"p": ([], ["q/*"]), "q": (["s/x"], []), "s": (["src/a"], [])}, [], True),
+                  ({"p": (["s/x"], ["q/*"]), "q": (["s/x"], []), "s": (["src/a"], [])}, [], False),
+                  ({"p": (["s/x"], ["q/*"]), "q": (["s/x"], []), "s": (["src/a"], [])}, [("lacking", "s/x")], True),
+                  ({"p": (["s/x"], ["q/*"]), "q": (["s/x"], []), "s": (["src/a"], [])}, [("contents", "s/x")], True),
+                  ({"p": (["s/x"], ["q/*"]), "q": (["s/x"], []), "s": (["src/a"], [])}, [("names", "s/x")], False),
+                  ({"p": (["s/x"], ["q/*"]), "q": (["s/x", "t/x"], []), "s": (["src/a"], []), "t": ([], ["src/*"])}, [], True),
+                  ({"p": (["s/x"], ["q/*"]), "q": (["s/x"], ["s/x"]), "s": (["src/a"], [])}, [], True),
+                  ({"p": (["s/x", "t/x"], ["q/*"]), "q": (["s/x"], []), "s": (["t/x"], []), "t": ([], ["src/*"])}, [], False),
+                  ({"p": (["t/x"], ["q/*"]), "q": (["s/x"], []), "s": (["t/x"], []), "t": ([], ["src/*"])}, [], False),
+                  ({"p": (["t/x"], ["q/*"]), "q": (["s/x"], []), "s": (["t/x"], ["t/y"]), "t": ([], ["src/*"])}, [], True)]
+        for told, more, is_wrong in worlds:
+            for order in itertools.permutations(told):
+                manners = {name: told[name] for name in order}
+                rule = Rule(ALL) & ~Rule([("contents", "q"), *more])
+                fault = judged(PLAIN, [EDIT], manners, rule)
+                self.assertEqual(fault is not None, is_wrong, (order, more))
+                if is_wrong:
+                    self.holds(PLAIN, [EDIT], manners, rule, fault)
+
     def test_a_first_beneath_a_step_that_is_seen_whole(self):
         manners = {"p": (["q/x/y", "q/z"], ["q/x"]), "q": (["src/a"], [])}
         for sort, path in itertools.product(SORTS, ["q/x", "q/x/y", "q"]):

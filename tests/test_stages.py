@@ -127,7 +127,10 @@ class DeedsTest(unittest.TestCase):
                               ("move", "none", 0, "main"), ("move", "home", True, "store"), ("move", "home", 2, "store"),
                               ("move", "home", "0", "main"), ("choose", "none"), ("choose", "home", "home"),
                               ("choose",), ("build", "main"), ("build",), ("lose", "home"), ("lose", "e"), ("lose",),
-                              ("take", "home"), ("edit", "main", [("put", "src/a/b", "")]), (["build"], "home")]
+                              ("take", "home"), ("edit", "main", [("put", "src/a/b", "")]), (["build"], "home"),
+                              ("take", "home", 0, "main"), ("copy", "home", 0, "main"), ("move", "home", 0, ["main"]),
+                              ("move", "home", 0), ("move", ["home"], 0, "main"), ("build", ["home"]), ("lose", {}),
+                              ("choose", []), ("edit", ["main"], []), ("copy", "main", ["feat"]), ("take", "main", "feat")]
         for thing in bad:
             for call in (STAGE.after, lambda history: moments(STAGE, history)):
                 self.assertEqual(raised(BadDeed, lambda: call([("build", "home"), thing, 7])).index, 1)
@@ -142,6 +145,18 @@ class DeedsTest(unittest.TestCase):
         self.assertEqual([sources.files()["src/a"] for _, _, sources in told], ["0", "9", "1"])
         self.assertEqual(told[2][2], STAGE.sources("flat"))
         self.assertEqual(moments(stage=STAGE, history=[edit]), [])
+
+    def test_each_choice_is_by_the_sources_there(self):
+        release = ("edit", "store", [("put", "index/a/3", "")])
+        wish = ("edit", "main", [("put", "wish", "want b all\n")])
+        row = [("choose", "home"), release, ("choose", "home"), wish, ("choose", "home"), ("copy", "store", "late"), ("choose", "home")]
+        locks = [{path: text for path, text in STAGE.after(row[:k]).shelves()["main"].files().items() if path.startswith("lock/")}
+                 for k in (1, 3, 5, 7)]
+        self.assertEqual(locks, [{"lock/a": "2", "lock/b": "3"}, {"lock/a": "3"}, {"lock/b": "3"}, {}])
+        deeds = [("choose", "home"), release, ("choose", "flat"), ("copy", "late", "store"), wish]
+        found = [row[0] for row in branches.rows_of_stages(STAGE, deeds, [])]
+        self.assertEqual(table(STAGE, deeds), found)
+        self.assertGreater(len(found), 20)
 
     def test_choices_are_the_choosers(self):
         for seed in range(40):

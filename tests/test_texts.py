@@ -310,6 +310,7 @@ class TextsTest(unittest.TestCase):
                  (read_stage, 'shelf b 0\nshelf a 0\n', 2), (read_stage, 'shelf a 1\nshelf b 0\n', 2),
                  (read_stage, 'shelf a 0\nb ""\n', 2), (read_stage, 'shelf a 0\nhouse h a b c\n', 2),
                  (read_stage, 'shelf a 1\nx ""\nhouse h a a c\n', 3), (read_stage, 'shelf a 0\nhouse h a a c\nshelf b 0\n', 3),
+                 (read_stage, 'shelf a 0\nhouse h a a c\nshelf z 0\n', 3),
                  (read_stage, 'shelf a 1\nx/y ""\nshelf b 1\nx/z ""\nhouse h a b c\n', 5),
                  (read_stage, 'shelf a 0\nhouse k a a c\nhouse h a a c\n', 3), (read_stage, 'shelf a 2\nb ""\nb/c ""\n', 3),
                  (read_stage, 'shelf a 2\nzzzzzzzz ""\n', 2), (read_deeds, 'edit a 1\nbuild h\n', 2),
@@ -319,6 +320,21 @@ class TextsTest(unittest.TestCase):
         # The last names bar nothing where nothing has to come behind them.
         self.assertEqual(read_stage('shelf zzzzzzzz 1\nzzzzzzzz ""\n').shelves(), {"zzzzzzzz": Tree({"zzzzzzzz": ""})})
         self.assertEqual(len(read_stage('shelf a 2\nzzzzzzzz/y ""\nzzzzzzzz/z ""\n').shelves()["a"]), 2)
+
+    def test_lines_that_stand_nowhere(self):
+        ahead = {read_tree: ['0 ""'], read_run: ["read x -", 'end ""'], read_runs: ["run x", 'end ""'],
+                 read_step: ["ask read x", "case -", '  end ""', "else"], read_deeds: ["edit a 1", "drop b"],
+                 read_stage: ["shelf a 1", '0 ""', "shelf b 0", "house h a b c"]}
+        more = ['a "b', 'a b"', 'a "', "read a b", 'read a "b', 'read a b"', "list a (b", "list a b)", "list a (", "list a )", "list a (bx",
+                "list a xb)", 'read a xb"', "home z b b c", "house A b b c", "house z b b", "house z b b c d",
+                "cast -", "cases -", "case", "elsewhere", "shelves a 0", "self a 0", "shelf", "shelf A 0", "houses h a a c",
+                "home h a a c", "house A a a c", "house", "move h", "move", "moves h 0 a", "copy a", "drops b", "drop A", 'putt a ""',
+                'runs a', 'makes a ""', "asks read b", "take a", "bring a b", "give a b c", "edits a 0", "build", "lose A"]
+        for reader, lines in ahead.items():
+            for k in range(len(lines) + 1):
+                for line in GARBAGE + more:
+                    text = write_lines([*lines[:k], line])
+                    self.assertEqual(raised(BadText, lambda: reader(text)).line, k + 1, text)
 
     def test_other_looks_beside_one_another(self):
         text = 'ask read a\ncase -\n  ask read b\n  else\n    end ""\nelse\n  ask read b\n  else\n    end ""\n'

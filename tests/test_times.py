@@ -119,7 +119,8 @@ class PlansTest(unittest.TestCase):
                [(0, 2, "lib"), (3, 0, "doc"), (3, 1, "app")], [(-1, 0, "lib"), (3, 0, "doc"), (3, 1, "app")],
                [(0, -1, "lib"), (3, 0, "doc"), (3, 1, "app")], [(False, 0, "lib"), (3, 0, "doc"), (3, 1, "app")],
                [(0, False, "lib"), (3, 0, "doc"), (3, 1, "app")], [(0, 0, "lib"), (3, 0, "doc"), (3, 1, "none")],
-               [(0, 0, "lib"), (3, 0, "lib"), (6, 0, "app")], [(0, 0, "lib"), (3, 0, "app"), (3, 0, "doc")]]
+               [(0, 0, "lib"), (3, 0, "lib"), (6, 0, "app")], plan + [(9, 0, "app")],
+               [(0, 0, "lib"), (3, 0, "app"), (3, 0, "doc")]]
         for thing in [*odd_things(), *bad, *[[*plan[:2], odd] for odd in odd_things()]]:
             self.assertFalse(is_plan(WORK, RUNS, LENGTHS, 2, thing))
         for thing in odd_things():
