@@ -63,15 +63,19 @@ def met_look(thing, paths):
     """The same; paths that were met are kept in paths, so that none is judged twice."""
     match thing:
         case [word, path]:
-            if word not in LOOKS or not isinstance(path, str):
+            if word not in LOOKS or not isinstance(path, str) or path not in paths and not is_new_path(path, paths):
                 return None
-            if path not in paths:
-                if not is_path_text(path):
-                    return None
-                paths[path] = True
             return (word, path)
         case _:
             return None
+
+
+def is_new_path(text, paths):
+    """Whether a string is a path; it is kept in paths if it is one."""
+    if not is_path_text(text):
+        return False
+    paths[text] = True
+    return True
 
 
 def bare(mark):
@@ -114,6 +118,11 @@ def met_made(thing, paths):
     match thing:
         case []:
             return ()
+        case [[path, text]]:
+            # Most ends make one file.
+            if not isinstance(text, str) or not isinstance(path, str):
+                return None
+            return ((path, text),) if path in paths or is_new_path(path, paths) else None
     if not isinstance(thing, (list, tuple)):
         return None
     made = []
@@ -122,14 +131,12 @@ def met_made(thing, paths):
             case [path, text]:
                 if not isinstance(text, str) or not isinstance(path, str):
                     return None
-                if path not in paths:
-                    if not is_path_text(path):
-                        return None
-                    paths[path] = True
+                if path not in paths and not is_new_path(path, paths):
+                    return None
                 made.append((path, text))
             case _:
                 return None
-    return tuple(made) if len(made) == 1 else ordered_made(made)
+    return ordered_made(made)
 
 
 def ordered_made(made):

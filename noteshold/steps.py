@@ -13,7 +13,7 @@ class Step:
 
     def __init__(self, tree):
         met = Met()
-        told = plain_tree(tree, {}, met)
+        told = plain_tree(tree, (), met)
         if told is None:
             raise BadStep(tuple(met.place[::-1]))
         self._tree = told
@@ -101,26 +101,25 @@ class Met:
     def __init__(self):
         self.paths = {}
         self.listed = []
-        # The last end as it was told, and in tuples.
-        self.end = None
-        self.plain = None
+        # The made files of the last end as they were told, and in tuples.
+        self.last_told = ()
+        self.last_made = ()
         self.place = []
 
 
 def plain_tree(tree, above, met):
     """The tree of choices in tuples, below looks that stand above; None if it is wrong somewhere."""
-    if tree == met.end:
-        return met.plain
     match tree:
         case [word, outcome, files]:
             if word != "end" or not isinstance(outcome, str):
                 return None
-            made = met_made(files, met.paths)
-            if made is None:
-                return None
-            met.end = tree
-            met.plain = ("end", outcome, made)
-            return met.plain
+            if files != met.last_told:
+                made = met_made(files, met.paths)
+                if made is None:
+                    return None
+                met.last_told = files
+                met.last_made = made
+            return ("end", outcome, met.last_made)
         case [word, thing, ways, other]:
             return plain_ask(thing, ways, other, above, met) if word == "ask" else None
         case _:
@@ -131,7 +130,8 @@ def plain_ask(thing, ways, other, above, met):
     look = met_look(thing, met.paths)
     if look is None or look in above or not isinstance(ways, (list, tuple)):
         return None
-    above[look] = True
+    # The same look may stand again beside this ask, but not below it.
+    seen = (*above, look)
     listed = met.listed if look[0] == "list" else None
     cases = {}
     for case in ways:
@@ -144,14 +144,12 @@ def plain_ask(thing, ways, other, above, met):
                     told = None if listed is None else folder_met(answer, listed)
                     is_right = told is not None
                 if is_right and told not in cases:
-                    part = plain_tree(below, above, met)
+                    part = plain_tree(below, seen, met)
         if part is None:
             break
         cases[told] = part
     else:
-        last = plain_tree(other, above, met)
-        # The same look may stand again beside this ask, but not below it.
-        del above[look]
+        last = plain_tree(other, seen, met)
         if last is not None:
             return ("ask", look, tuple(cases.items()), last)
     met.place.append(len(cases))

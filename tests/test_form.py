@@ -138,15 +138,17 @@ class StatementsTest(unittest.TestCase):
     def test_patterns_are_rows_of_names(self):
         for name, function in nodes(ast.FunctionDef):
             for node in [one for one in ast.walk(function) if isinstance(one, ast.Match)]:
-                caught = []
                 for case in node.cases:
+                    caught = [one.name for one in ast.walk(case.pattern) if isinstance(one, ast.MatchAs)]
+                    self.assertEqual(len(caught), len(set(caught)), (name, function.name))
+                    self.assertEqual([word for word in bound_in(function) if word in caught], [], (name, function.name))
                     self.assertIsNone(case.guard, (name, function.name))
-                    inner = case.pattern.patterns if isinstance(case.pattern, ast.MatchSequence) else [case.pattern]
-                    self.assertTrue(all(isinstance(one, ast.MatchAs) and one.pattern is None for one in inner), name)
-                    caught.extend(one.name for one in inner)
-                    if inner and not isinstance(case.pattern, ast.MatchSequence):
-                        self.assertIs(case, node.cases[-1])
-                self.assertEqual([word for word in bound_in(function) if word in caught], [], (name, function.name))
+                    for one in ast.walk(case.pattern):
+                        if isinstance(one, ast.pattern):
+                            self.assertIsInstance(one, (ast.MatchSequence, ast.MatchAs), (name, function.name))
+                            self.assertIsNone(getattr(one, "pattern", None), (name, function.name))
+                    if not isinstance(case.pattern, ast.MatchSequence):
+                        self.assertIs(case, node.cases[-1], (name, function.name))
 
     def test_raise_makes_its_error(self):
         for name, node in nodes(ast.Raise):
